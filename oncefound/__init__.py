@@ -1,0 +1,1 @@
+"""Oncefound: which trees of valleys can stand behind a table."""

@@ -1,0 +1,114 @@
+"""What several tests use: tables and trees, values of any kind, and a test case with a check of errors."""
+
+import random
+import unittest
+
+from oncefound.errors import BadTable
+from oncefound.tables import Table
+from oncefound.trees import Tree
+
+
+def table_a():
+    """The table A of point 10."""
+    return Table((2, 3), ((0, 0), (1, None), (0, 0), (1, 2)))
+
+
+def tree_t():
+    """The tree of the example of point 20; its place 3 is lost."""
+    return Tree(((0, 1), (0, 3), (2, 3), (3, 4)), (0, 1, 2, 4))
+
+
+def nested(wrap, levels=80):
+    value = 0
+    for _ in range(levels):
+        value = wrap(value)
+    return value
+
+
+def any_values():
+    """Values of all kinds that point 3 allows, made anew."""
+    return [
+        None, True, False, 0, 1, 2, 3, 4, 5, 6, 7, 8, 9, 12, 13, -1, 999999999, -999999999,
+        "", "0", "1", "a", "None", "kinds 1\na",
+        [], [0], [1], [0, 1], [[0]], [(0, 1)], [None], [True], ["a", [1, {"b": []}]],
+        (), (0,), (1,), (True,), (False,), (0, 1), (False, True), (0, True), (1, 0), (0, 0), (1, 1),
+        (1, 2), (2, 3), (3, 2), (None,), (None, None), ("a",), ("0", "1"), (-1,), (0, 999999999),
+        ((),), ((0,),), ((1,),), ((True,),), ((0, 1),), ((False, True),), ([0],), ([0, 1],), [[0, 1]],
+        (((0,),),), ({},), ((0, 1), [1, 2]), ((1, 2), (0, 1)),
+        {}, {0: 0}, {0: (0,)}, {True: False}, {"a": [1, {"b": (2,)}]}, {0: 1, 1: 0},
+        nested(lambda value: [value]), nested(lambda value: (value,)), nested(lambda value: {1: value}),
+        table_a(), tree_t(), [table_a()], (tree_t(),), {"t": table_a()}, (0, table_a()), BadTable("x"),
+    ]
+
+
+def wrong_values(right):
+    """All of any_values but those that are written as one of these right ones."""
+    written = {repr(value) for value in right}
+    return [value for value in any_values() if repr(value) not in written]
+
+
+def random_table(dice, matters=None, valleys=None, unread=0.3):
+    kinds = tuple(dice.randint(1, 6) for _ in range(matters or dice.randint(1, 8)))
+    many = valleys or dice.randint(1, 12)
+    rows = [[None if dice.random() < unread else dice.randrange(kind) for kind in kinds] for _ in range(many)]
+    for matter, kind in enumerate(kinds):
+        if all(row[matter] is None for row in rows):
+            rows[dice.randrange(many)][matter] = dice.randrange(kind)
+    return Table(kinds, tuple(tuple(row) for row in rows))
+
+
+def random_tables(seed, times=120):
+    dice = random.Random(seed)
+    return [(dice, random_table(dice)) for _ in range(times)]
+
+
+def random_tree(dice, most_places=22):
+    """Any tree, its places numbered in any way: grown from random ties, lost places seated where needed."""
+    while True:
+        many = dice.randint(1, most_places)
+        names = list(range(many))
+        dice.shuffle(names)
+        reach = dice.choice((2, many))
+        ties = []
+        for place in range(1, many):
+            near = dice.randrange(max(0, place - reach), place)
+            ties.append(tuple(sorted((names[place], names[near]))))
+        degrees = [sum(place in tie for tie in ties) for place in range(many)]
+        seats = [place for place in range(many) if degrees[place] < 3]
+        seats += [place for place in range(many) if degrees[place] >= 3 and dice.random() < 0.3]
+        if len(seats) <= 12:
+            seats += [dice.randrange(many) for _ in range(dice.randint(0, 12 - len(seats)))]
+            dice.shuffle(seats)
+            return Tree(tuple(sorted(ties)), tuple(seats))
+
+
+def random_trees(seed, times=150):
+    dice = random.Random(seed)
+    return [(dice, random_tree(dice)) for _ in range(times)]
+
+
+class Case(unittest.TestCase):
+    def refused(self, error, function, *values, told=None, **named):
+        """The call raises just this error, with these attributes."""
+        try:
+            result = function(*values, **named)
+        except Exception as caught:
+            self.assertIs(type(caught), error, (function, values, named))
+            self.assertEqual(vars(caught), told or {}, (function, values, named))
+        else:
+            self.fail(f"{function} of {values} {named} gave {result!r} and not {error}")
+
+    def same(self, one, other):
+        """Equal, and alike in kind at every depth: True is not 1, a list is not a tuple."""
+        self.assertEqual(one, other)
+        self.assertEqual(shape(one), shape(other))
+
+
+def shape(value):
+    if isinstance(value, (tuple, list)):
+        return (type(value), [shape(item) for item in value])
+    if isinstance(value, Table):
+        return (Table, shape(value.kinds), shape(value.rows))
+    if isinstance(value, Tree):
+        return (Tree, shape(value.ties), shape(value.seats))
+    return (type(value), repr(value))

@@ -1,0 +1,198 @@
+"""Points 3, 4 and 5: what holds for every function and class."""
+
+import copy
+import itertools
+import unittest
+
+from oncefound.changing import exchanged, kept, merged, picked, read, with_matter, with_row
+from oncefound.errors import AllUnread, BadColumn, BadCustom, BadCustoms, BadKind, BadKinds, BadMany, BadMatter
+from oncefound.errors import BadMatters, BadParting, BadPartings, BadPlace, BadRow, BadRows, BadSeats, BadTable
+from oncefound.errors import BadText, BadTie, BadTies, BadTree, BadValley, BadValleys, Crosses, OtherMany, TooMany
+from oncefound.tables import Table, having, is_full, is_row, sorts, used
+from oncefound.texts import from_text, to_text
+from oncefound.trees import Tree, added, alike, are_partings, common, finer, joined, middle, normal, parting
+from oncefound.trees import partings, path, tree_of
+from samples import Case, any_values, nested, shape, table_a, tree_t
+
+TABLE = ("table", table_a(), BadTable)
+TREE = ("tree", tree_t(), BadTree)
+MATTER = ("matter", 1, BadMatter)
+CUSTOMS = ((1, 0), (0, 1, 2))
+TWO_TREES = (("one", tree_t(), BadTree), ("other", tree_of(4, ((2, 3),)), BadTree))
+
+# Each function and class: its parameters with a value that is right, and the error of a wrong one.
+CALLS = (
+    (Table, ("kinds", (2, 3), BadKinds), ("rows", ((0, 0), (1, None)), BadRows)),
+    (is_row, TABLE, ("thing", (0, None), None)),
+    (is_full, TABLE),
+    (used, TABLE, MATTER),
+    (having, TABLE, MATTER, ("custom", 2, BadCustom)),
+    (sorts, TABLE),
+    (kept, TABLE, ("matters", (1,), BadMatters)),
+    (picked, TABLE, ("valleys", (3, 1), BadValleys)),
+    (read, TABLE, ("valley", 2, BadValley), MATTER, ("custom", None, BadCustom)),
+    (with_row, TABLE, ("row", (1, 1), BadRow)),
+    (with_matter, TABLE, ("kind", 2, BadKind), ("column", (1, None, 0, 0), BadColumn)),
+    (merged, TABLE, MATTER, ("one", 2, BadCustom), ("other", 0, BadCustom)),
+    (exchanged, TABLE, ("matters", (1, 0), BadMatters), ("valleys", (3, 1, 0, 2), BadValleys),
+     ("customs", CUSTOMS, BadCustoms)),
+    (to_text, TABLE),
+    (from_text, ("text", "kinds 2 3\nab", BadText)),
+    (Tree, ("ties", ((0, 1), (1, 2)), BadTies), ("seats", (0, 1, 1, 2), BadSeats)),
+    (path, TREE, ("one", 1, BadPlace), ("other", 4, BadPlace)),
+    (middle, TREE, ("one", 1, BadPlace), ("other", 2, BadPlace), ("third", 4, BadPlace)),
+    (parting, TREE, ("tie", (0, 3), BadTie)),
+    (partings, TREE),
+    (alike, *TWO_TREES),
+    (are_partings, ("many", 4, BadMany), ("thing", ((1,), (2, 3)), None)),
+    (tree_of, ("many", 4, BadMany), ("lots", ((1,), (2, 3)), BadPartings)),
+    (normal, TREE),
+    (joined, TREE, ("tie", (0, 3), BadTie)),
+    (added, TREE, ("lot", (1, 2, 3), BadParting)),
+    (finer, *TWO_TREES),
+    (common, *TWO_TREES),
+)
+
+
+def wrong_anywhere():
+    """Values of all kinds that are right for no parameter of CALLS that has an error."""
+    return [
+        "?", "", True, False, -1, 999999999, -999999999, [], [0], [(0, 1)], {}, {0: 0}, {"a": [1]}, ("a", None),
+        (True,), (None, False), nested(lambda value: [value]), nested(lambda value: (value,)),
+        nested(lambda value: {1: value}), (table_a(),), [tree_t()], BadTable("x"),
+    ]
+
+
+def outcome(function, *values, **named):
+    try:
+        return shape(function(*values, **named))
+    except ValueError as caught:
+        return (type(caught), vars(caught))
+
+
+class Calls(Case):
+    def test_by_position_and_by_name(self):
+        for function, *parameters in CALLS:
+            values = [value for _, value, _ in parameters]
+            named = {name: value for name, value, _ in parameters}
+            wanted = shape(function(*values))
+            for turned in (named, dict(reversed(named.items()))):
+                self.assertEqual(shape(function(**turned)), wanted, function)
+            for count in range(len(values)):
+                rest = dict(list(named.items())[count:])
+                self.assertEqual(shape(function(*values[:count], **rest)), wanted, function)
+
+    def test_equal_arguments_give_equal_results(self):
+        for function, *parameters in CALLS:
+            values = [value for _, value, _ in parameters]
+            again = copy.deepcopy(values)
+            self.assertEqual(shape(function(*values)), shape(function(*again)), function)
+
+    def test_the_first_wrong_parameter_is_told(self):
+        for function, *parameters in CALLS:
+            for wrong in itertools.product((False, True), repeat=len(parameters)):
+                errors = [error for (_, _, error), is_wrong in zip(parameters, wrong) if is_wrong and error]
+                for value in wrong_anywhere() if errors else ():
+                    values = [value if is_wrong else right for (_, right, _), is_wrong in zip(parameters, wrong)]
+                    named = {name: given for (name, _, _), given in zip(parameters, values)}
+                    self.assertIs(outcome(function, *values)[0], errors[0], (function, values))
+                    self.assertIs(outcome(function, **named)[0], errors[0], (function, values))
+
+    def test_what_judges_any_value_raises_nothing_for_it(self):
+        for value in any_values() + wrong_anywhere():
+            self.assertIn(is_row(table_a(), value), (True, False))
+            self.assertIn(are_partings(4, value), (True, False))
+            self.assertIs(type(is_row(table_a(), value)), bool)
+            self.assertIs(type(are_partings(4, value)), bool)
+
+    def test_what_is_passed_is_not_changed(self):
+        for function, *parameters in CALLS:
+            right = [value for _, value, _ in parameters]
+            for index in range(len(right)):
+                for value in [right[index], *any_values()]:
+                    values = right[:index] + [value] + right[index + 1:]
+                    before = [shape(item) for item in values]
+                    written = repr(value)
+                    outcome(function, *values)
+                    self.assertEqual([shape(item) for item in values], before, function)
+                    self.assertEqual(repr(value), written, function)
+
+    def test_what_raises_leaves_its_table_as_it_was(self):
+        table, tree = table_a(), tree_t()
+        self.refused(AllUnread, picked, table, (1,), told={"matter": 1})
+        self.refused(Crosses, added, tree, (1, 2), told={"parting": (2, 3)})
+        self.same(table, table_a())
+        self.same(tree, tree_t())
+
+
+class Numbers(Case):
+    def test_true_is_not_1_and_false_is_not_0(self):
+        self.assertIs(is_row(table_a(), (1, 0)), True)
+        for row in ((True, 0), (1, False), (True, False), (None, True)):
+            self.assertIs(is_row(table_a(), row), False)
+            self.refused(BadRow, with_row, table_a(), row)
+            self.refused(BadRows, Table, (2, 3), ((0, 0), row))
+        self.refused(BadKinds, Table, (True,), ((0,),))
+        self.refused(BadMatter, used, table_a(), True)
+        self.refused(BadCustom, having, table_a(), 0, True)
+        self.refused(BadMatters, kept, table_a(), (False,))
+        self.refused(BadMatters, kept, table_a(), (False, 1))
+        self.refused(BadValleys, picked, table_a(), (0, True))
+        self.refused(BadValley, read, table_a(), True, 0, 0)
+        self.refused(BadMatter, read, table_a(), 0, False, 0)
+        self.refused(BadCustom, read, table_a(), 0, 0, True)
+        self.refused(BadKind, with_matter, table_a(), True, (0, 0, 0, 0))
+        self.refused(BadColumn, with_matter, table_a(), 2, (0, 1, True, 0))
+        self.refused(BadCustom, merged, table_a(), 0, False, 1)
+        self.refused(BadCustom, merged, table_a(), 0, 0, True)
+        self.refused(BadMatters, exchanged, table_a(), (True, 0), (0, 1, 2, 3), CUSTOMS)
+        self.refused(BadValleys, exchanged, table_a(), (1, 0), (False, 1, 2, 3), CUSTOMS)
+        self.refused(BadCustoms, exchanged, table_a(), (1, 0), (0, 1, 2, 3), ((True, 0), (0, 1, 2)))
+        self.refused(BadTies, Tree, ((0, True),), (0, 1))
+        self.refused(BadSeats, Tree, ((0, 1),), (False, 1))
+        self.refused(BadPlace, path, tree_t(), True, 0)
+        self.refused(BadTie, parting, tree_t(), (0, True))
+        self.refused(BadTie, joined, tree_t(), (False, 1))
+        self.refused(BadMany, tree_of, True, ())
+        self.refused(BadPartings, tree_of, 4, ((True,),))
+        self.refused(BadParting, added, tree_t(), (True, 2, 3))
+        self.assertIs(are_partings(4, ((True, 2),)), False)
+
+    def test_results_have_no_truth_values_in_the_place_of_numbers(self):
+        for function, *parameters in CALLS:
+            result = function(*[value for _, value, _ in parameters])
+            if not isinstance(result, bool):
+                self.assertNotIn("bool", str(shape(result)), function)
+
+
+class OrderOfErrors(Case):
+    def test_too_many_comes_behind_all_others(self):
+        twelve = Table((2, 3), ((0, 2),) * 12)
+        eight = Table((2,) * 8, ((0,) * 8,))
+        self.refused(BadRow, with_row, twelve, (0, 3))
+        self.refused(TooMany, with_row, twelve, (0, 2), told={"most": 12})
+        self.refused(BadKind, with_matter, eight, 0, None)
+        self.refused(BadColumn, with_matter, eight, 2, (2,))
+        self.refused(TooMany, with_matter, eight, 2, (1,), told={"most": 8})
+
+    def test_all_unread_comes_behind_what_is_judged_first(self):
+        table = Table((2, 3), ((0, None), (1, 2)))
+        self.refused(BadValleys, picked, table, (0, 0))
+        self.refused(AllUnread, picked, table, (0,), told={"matter": 1})
+        self.refused(BadCustom, read, table, 1, 1, "None")
+        self.refused(AllUnread, read, table, 1, 1, None, told={"matter": 1})
+
+    def test_other_many_comes_behind_bad_tree(self):
+        for function in (alike, finer, common):
+            self.refused(BadTree, function, Tree((), (0,)), [tree_t()])
+            self.refused(OtherMany, function, Tree((), (0,)), tree_t())
+
+    def test_crosses_comes_behind_bad_parting(self):
+        tree = tree_of(4, ((1, 2), (2,)))
+        self.refused(BadParting, added, tree, (0, 1, 3))
+        self.refused(BadParting, added, tree, (1, 2))
+        self.refused(Crosses, added, tree, (1, 3), told={"parting": (1, 2)})
+
+
+if __name__ == "__main__":
+    unittest.main()

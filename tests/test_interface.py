@@ -1,0 +1,89 @@
+"""The section "The interface": which names there are, in which file, and what imports what."""
+
+import ast
+import importlib
+import inspect
+import pathlib
+import unittest
+
+FOLDER = pathlib.Path(__file__).resolve().parent.parent / "oncefound"
+
+# The modules in the order of the document; errors.py has a test of its own.
+INTERFACE = {
+    "errors": {},
+    "tables": {
+        "Table": "kinds rows", "is_row": "table thing", "is_full": "table", "used": "table matter",
+        "having": "table matter custom", "sorts": "table",
+    },
+    "changing": {
+        "kept": "table matters", "picked": "table valleys", "read": "table valley matter custom",
+        "with_row": "table row", "with_matter": "table kind column", "merged": "table matter one other",
+        "exchanged": "table matters valleys customs",
+    },
+    "texts": {"to_text": "table", "from_text": "text"},
+    "trees": {
+        "Tree": "ties seats", "path": "tree one other", "middle": "tree one other third", "parting": "tree tie",
+        "partings": "tree", "alike": "one other", "are_partings": "many thing", "tree_of": "many lots",
+        "normal": "tree", "joined": "tree tie", "added": "tree lot", "finer": "one other", "common": "one other",
+    },
+}
+# What is no part of the interface, and imports nothing of it.
+FURTHER = ["values"]
+
+
+def parsed(module):
+    return ast.parse((FOLDER / f"{module}.py").read_text(encoding="ascii"))
+
+
+def defined(module):
+    return [node.name for node in parsed(module).body if isinstance(node, (ast.FunctionDef, ast.ClassDef))]
+
+
+class Interface(unittest.TestCase):
+    def test_each_name_is_defined_in_its_file(self):
+        for module, names in INTERFACE.items():
+            self.assertEqual(set(names) - set(defined(module)), set(), module)
+
+    def test_parameters(self):
+        for module, names in INTERFACE.items():
+            for name, wanted in names.items():
+                found = inspect.signature(getattr(importlib.import_module(f"oncefound.{module}"), name)).parameters
+                self.assertEqual(list(found), wanted.split(), name)
+                for parameter in found.values():
+                    self.assertEqual(parameter.kind, parameter.POSITIONAL_OR_KEYWORD, name)
+                    self.assertIs(parameter.default, parameter.empty, name)
+
+    def test_imports_come_from_modules_named_before(self):
+        order = FURTHER + list(INTERFACE)
+        for index, module in enumerate(order):
+            for node in ast.walk(parsed(module)):
+                self.assertNotIsInstance(node, ast.Import)
+                if isinstance(node, ast.ImportFrom):
+                    package, _, source = node.module.partition(".")
+                    self.assertEqual((package, node.level), ("oncefound", 0), module)
+                    self.assertIn(source, order[:index], module)
+                    for alias in node.names:
+                        self.assertIsNone(alias.asname, module)
+
+    def test_the_folder_has_these_files_alone(self):
+        found = sorted(path.name for path in FOLDER.iterdir() if path.name != "__pycache__")
+        self.assertEqual(found, sorted(["__init__.py"] + [f"{name}.py" for name in FURTHER + list(INTERFACE)]))
+
+    def test_init_defines_nothing(self):
+        for node in parsed("__init__").body:
+            self.assertIsInstance(node, ast.Expr)
+
+    def test_sizes_and_characters(self):
+        for path in FOLDER.glob("*.py"):
+            text = path.read_bytes().decode("ascii")
+            lines = text.split("\n")
+            self.assertLessEqual(len(lines), 399, path)
+            self.assertLessEqual(max(map(len, lines)), 120, path)
+            self.assertFalse(any(letter < " " for letter in text.replace("\n", "")), path)
+            for node in ast.walk(ast.parse(text)):
+                if isinstance(node, ast.FunctionDef):
+                    self.assertLessEqual(node.end_lineno - node.lineno + 1, 40, (path, node.name))
+
+
+if __name__ == "__main__":
+    unittest.main()
