@@ -1,6 +1,6 @@
 """Tables: what is known of the customs of some valleys."""
 
-from oncefound.errors import BadCustom, BadKinds, BadMatter, BadRows, BadTable, BadValley
+from oncefound.errors import BadCustom, BadKinds, BadMatter, BadRows, BadTable, BadValley, Unread
 from oncefound.values import is_between, is_number
 
 MOST_MATTERS = 8
@@ -89,6 +89,12 @@ def is_full(table):
     return all([None not in row for row in table.rows])
 
 
+def check_full(table):
+    """BadTable unless table is a Table, Unread if something is unread."""
+    if not is_full(table):
+        raise Unread("a cell of the table is unread")
+
+
 def used(table, matter):
     """The ascending tuple of the customs of matter that some valley has."""
     check_table(table)
@@ -99,6 +105,13 @@ def used(table, matter):
 def is_used(table, matter, thing):
     """Whether thing, any value, is a used custom of matter."""
     return is_number(thing) and thing in used(table, matter)
+
+
+def is_used_row(table, thing):
+    """Whether thing, any value, is a row in which nothing is unread and each custom is a used one."""
+    if not _is_row_for(table.kinds, thing):
+        return False
+    return all([is_used(table, matter, cell) for matter, cell in enumerate(thing)])
 
 
 def having(table, matter, custom):

@@ -29,7 +29,7 @@ def _are_ties(thing):
         return False
     if not all([is_lot(tie, 0, len(thing)) and len(tie) == 2 for tie in thing]):
         return False
-    return is_rising(thing) and len(_steps_to(thing, 0)) == len(thing) + 1
+    return is_rising(thing) and len(steps_to(thing, 0)) == len(thing) + 1
 
 
 def _are_seats(ties, thing):
@@ -45,7 +45,7 @@ def _ties_at(ties, place):
     return [tie for tie in ties if place in tie]
 
 
-def _steps_to(ties, goal):
+def steps_to(ties, goal):
     """For each place from which ties lead to goal, the next place on the way there; goal for itself."""
     step = {goal: goal}
     reached = [goal]
@@ -95,7 +95,7 @@ def path(tree, one, other):
     check_tree(tree)
     check_place(tree, one)
     check_place(tree, other)
-    step = _steps_to(tree.ties, other)
+    step = steps_to(tree.ties, other)
     places = [one]
     while places[-1] != other:
         places.append(step[places[-1]])
@@ -119,7 +119,7 @@ def _tie_of(one, other):
 def _partings_of_ties(tree):
     """A dict with the parting of each tie."""
     root = tree.seats[0]
-    step = _steps_to(tree.ties, root)
+    step = steps_to(tree.ties, root)
     lots = {tie: [] for tie in tree.ties}
     for valley, seat in enumerate(tree.seats):
         place = seat

@@ -87,6 +87,30 @@ def random_trees(seed, times=150):
     return [(dice, random_tree(dice)) for _ in range(times)]
 
 
+def random_history(dice, tree, most_matters=4, most_kind=6, unread=0.3):
+    """A table that tree fits, and the rows of the places that it was read from."""
+    columns = [random_column(dice, tree, dice.randint(1, most_kind)) for _ in range(dice.randint(1, most_matters))]
+    rows = tuple(zip(*columns))
+    seen = [[None if dice.random() < unread else cell for cell in rows[seat]] for seat in tree.seats]
+    for matter in range(len(columns)):
+        if all(row[matter] is None for row in seen):
+            valley = dice.randrange(len(seen))
+            seen[valley][matter] = columns[matter][tree.seats[valley]]
+    kinds = tuple(max(column) + 1 for column in columns)
+    return Table(kinds, tuple(map(tuple, seen))), rows
+
+
+def random_column(dice, tree, kind):
+    """A custom for each place: some ties are cut, and each part of the tree gets a custom of its own."""
+    cut = dice.sample(tree.ties, min(dice.randint(0, kind - 1), len(tree.ties)))
+    part = list(range(len(tree.ties) + 1))
+    for one, other in tree.ties:
+        if (one, other) not in cut:
+            part = [part[one] if number == part[other] else number for number in part]
+    customs = dict(zip(sorted(set(part)), dice.sample(range(kind), len(set(part)))))
+    return tuple(customs[number] for number in part)
+
+
 class Case(unittest.TestCase):
     def refused(self, error, function, *values, told=None, **named):
         """The call raises just this error, with these attributes."""

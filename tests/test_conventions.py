@@ -5,20 +5,33 @@ import itertools
 import unittest
 
 from oncefound.changing import exchanged, kept, merged, picked, read, with_matter, with_row
-from oncefound.errors import AllUnread, BadColumn, BadCustom, BadCustoms, BadKind, BadKinds, BadMany, BadMatter
-from oncefound.errors import BadMatters, BadParting, BadPartings, BadPlace, BadRow, BadRows, BadSeats, BadTable
-from oncefound.errors import BadText, BadTie, BadTies, BadTree, BadValley, BadValleys, Crosses, OtherMany, TooMany
+from oncefound.customtrees import agree, custom_trees, is_custom_tree, pair_partings
+from oncefound.errors import AllUnread, BadColumn, BadCustom, BadCustoms, BadCustomTree, BadFilling, BadKind, BadKinds
+from oncefound.errors import BadMany, BadMatter, BadMatters, BadParting, BadPartings, BadPlace, BadRow, BadRows
+from oncefound.errors import BadSeats, BadTable, BadText, BadTie, BadTies, BadTree, BadValley, BadValleys, Crosses
+from oncefound.errors import OtherMany, TooMany
+from oncefound.fillings import changes, choices, filling, fillings_many, is_filling
+from oncefound.middles import closure, crossing_lots, majority, steps_back
+from oncefound.pieces import clash, fits, piece
+from oncefound.splits import crossed, four, least_tree, table_of
 from oncefound.tables import Table, having, is_full, is_row, sorts, used
 from oncefound.texts import from_text, to_text
 from oncefound.trees import Tree, added, alike, are_partings, common, finer, joined, middle, normal, parting
 from oncefound.trees import partings, path, tree_of
 from samples import Case, any_values, nested, shape, table_a, tree_t
+from test_customtrees import LINE, table_c
+from test_fillings import RIGHT
+from test_pieces import table_p
+from test_splits import table_u
 
 TABLE = ("table", table_a(), BadTable)
 TREE = ("tree", tree_t(), BadTree)
 MATTER = ("matter", 1, BadMatter)
 CUSTOMS = ((1, 0), (0, 1, 2))
 TWO_TREES = (("one", tree_t(), BadTree), ("other", tree_of(4, ((2, 3),)), BadTree))
+TREE_AND_TABLE = (TREE, ("table", table_p(), BadTable))
+TABLE_U = ("table", table_u(), BadTable)
+TABLE_C = ("table", table_c(), BadTable)
 
 # Each function and class: its parameters with a value that is right, and the error of a wrong one.
 CALLS = (
@@ -51,6 +64,27 @@ CALLS = (
     (added, TREE, ("lot", (1, 2, 3), BadParting)),
     (finer, *TWO_TREES),
     (common, *TWO_TREES),
+    (piece, *TREE_AND_TABLE, MATTER, ("custom", 2, BadCustom)),
+    (fits, *TREE_AND_TABLE),
+    (clash, *TREE_AND_TABLE),
+    (is_filling, *TREE_AND_TABLE, ("thing", RIGHT, None)),
+    (filling, *TREE_AND_TABLE),
+    (fillings_many, *TREE_AND_TABLE),
+    (choices, *TREE_AND_TABLE, ("place", 3, BadPlace), MATTER),
+    (changes, *TREE_AND_TABLE, ("rows", RIGHT, BadFilling)),
+    (crossed, TABLE_U),
+    (least_tree, TABLE_U),
+    (four, TABLE_U, ("one", 2, BadMatter), ("other", 1, BadMatter)),
+    (table_of, TREE),
+    (majority, TABLE_U, ("one", 0, BadValley), ("other", 2, BadValley), ("third", 3, BadValley)),
+    (closure, TABLE_U),
+    (crossing_lots, TABLE_U),
+    (steps_back, TABLE_U, ("row", (1, 1, 1), BadRow)),
+    (custom_trees, TABLE_C, ("matter", 0, BadMatter)),
+    (is_custom_tree, TABLE_C, ("matter", 0, BadMatter), ("thing", LINE, None)),
+    (pair_partings, TABLE_C, ("matter", 0, BadMatter), ("custom_tree", LINE, BadCustomTree)),
+    (agree, TABLE_C, ("one", 0, BadMatter), ("first", LINE, BadCustomTree), ("other", 1, BadMatter),
+     ("second", ((0, 1),), BadCustomTree)),
 )
 
 
@@ -99,11 +133,13 @@ class Calls(Case):
                     self.assertIs(outcome(function, **named)[0], errors[0], (function, values))
 
     def test_what_judges_any_value_raises_nothing_for_it(self):
-        for value in any_values() + wrong_anywhere():
-            self.assertIn(is_row(table_a(), value), (True, False))
-            self.assertIn(are_partings(4, value), (True, False))
-            self.assertIs(type(is_row(table_a(), value)), bool)
-            self.assertIs(type(are_partings(4, value)), bool)
+        judging = [call for call in CALLS if call[-1][2] is None]
+        self.assertEqual([call[0] for call in judging], [is_row, are_partings, is_filling, is_custom_tree])
+        for function, *parameters in judging:
+            ahead = [value for _, value, _ in parameters[:-1]]
+            self.assertIs(function(*ahead, parameters[-1][1]), True)
+            for value in any_values() + wrong_anywhere():
+                self.assertIs(type(function(*ahead, value)), bool)
 
     def test_what_is_passed_is_not_changed(self):
         for function, *parameters in CALLS:
@@ -157,6 +193,20 @@ class Numbers(Case):
         self.refused(BadPartings, tree_of, 4, ((True,),))
         self.refused(BadParting, added, tree_t(), (True, 2, 3))
         self.assertIs(are_partings(4, ((True, 2),)), False)
+        self.refused(BadCustom, piece, tree_t(), table_p(), 1, True)
+        self.refused(BadMatter, piece, tree_t(), table_p(), True, 0)
+        self.refused(BadPlace, choices, tree_t(), table_p(), True, 1)
+        self.refused(BadMatter, choices, tree_t(), table_p(), 1, True)
+        self.refused(BadFilling, changes, tree_t(), table_p(), RIGHT[:3] + ((True, 0), (1, 2)))
+        self.assertIs(is_filling(tree_t(), table_p(), RIGHT[:3] + ((True, 0), (1, 2))), False)
+        self.refused(BadMatter, four, table_u(), True, 0)
+        self.refused(BadMatter, four, table_u(), 0, True)
+        self.refused(BadValley, majority, table_u(), 0, 1, True)
+        self.refused(BadRow, steps_back, table_u(), (1, True, 0))
+        self.refused(BadMatter, custom_trees, table_c(), False)
+        self.assertIs(is_custom_tree(table_c(), 0, ((0, True), (1, 2))), False)
+        self.refused(BadCustomTree, pair_partings, table_c(), 0, ((False, 1), (1, 2)))
+        self.refused(BadCustomTree, agree, table_c(), 0, LINE, 1, ((0, True),))
 
     def test_results_have_no_truth_values_in_the_place_of_numbers(self):
         for function, *parameters in CALLS:
@@ -181,6 +231,15 @@ class OrderOfErrors(Case):
         self.refused(AllUnread, picked, table, (0,), told={"matter": 1})
         self.refused(BadCustom, read, table, 1, 1, "None")
         self.refused(AllUnread, read, table, 1, 1, None, told={"matter": 1})
+
+    def test_other_many_comes_ahead_of_all_but_bad_tree_and_bad_table(self):
+        for function, *parameters in CALLS:
+            if parameters[:2] == list(TREE_AND_TABLE):
+                rest = ["?"] * (len(parameters) - 2)
+                self.refused(BadTree, function, None, None, *rest)
+                self.refused(BadTable, function, Tree((), (0,)), None, *rest)
+                self.refused(OtherMany, function, Tree((), (0,)), table_p(), *rest)
+                self.refused(OtherMany, function, tree_t(), Table((1,), ((0,),)), *rest)
 
     def test_other_many_comes_behind_bad_tree(self):
         for function in (alike, finer, common):

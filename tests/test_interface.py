@@ -26,7 +26,22 @@ INTERFACE = {
         "partings": "tree", "alike": "one other", "are_partings": "many thing", "tree_of": "many lots",
         "normal": "tree", "joined": "tree tie", "added": "tree lot", "finer": "one other", "common": "one other",
     },
+    "pieces": {"piece": "tree table matter custom", "fits": "tree table", "clash": "tree table"},
+    "fillings": {
+        "is_filling": "tree table thing", "filling": "tree table", "choices": "tree table place matter",
+        "fillings_many": "tree table", "changes": "tree table rows",
+    },
+    "splits": {"crossed": "table", "least_tree": "table", "four": "table one other", "table_of": "tree"},
+    "middles": {
+        "majority": "table one other third", "closure": "table", "crossing_lots": "table", "steps_back": "table row",
+    },
+    "customtrees": {
+        "custom_trees": "table matter", "is_custom_tree": "table matter thing",
+        "pair_partings": "table matter custom_tree", "agree": "table one first other second",
+    },
 }
+# What may be imported from Python's own library.
+LIBRARY = {"itertools": {"combinations"}}
 # What is no part of the interface, and imports nothing of it.
 FURTHER = ["values"]
 
@@ -58,7 +73,9 @@ class Interface(unittest.TestCase):
         for index, module in enumerate(order):
             for node in ast.walk(parsed(module)):
                 self.assertNotIsInstance(node, ast.Import)
-                if isinstance(node, ast.ImportFrom):
+                if isinstance(node, ast.ImportFrom) and node.module in LIBRARY:
+                    self.assertLessEqual({alias.name for alias in node.names}, LIBRARY[node.module], module)
+                elif isinstance(node, ast.ImportFrom):
                     package, _, source = node.module.partition(".")
                     self.assertEqual((package, node.level), ("oncefound", 0), module)
                     self.assertIn(source, order[:index], module)

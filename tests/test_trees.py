@@ -7,59 +7,10 @@ from oncefound.errors import BadMany, BadParting, BadPartings, BadPlace, BadSeat
 from oncefound.errors import Crosses, OtherMany
 from oncefound.trees import Tree, added, alike, are_partings, common, finer, joined, middle, normal, parting
 from oncefound.trees import partings, path, tree_of
+from oracles import cross, families, far_side, grown_twelve, lots_of, parted, reached, renumbered
 from samples import Case, any_values, random_trees, table_a, tree_t, wrong_values
 
 LOTS_T = ((1,), (2,), (2, 3), (3,))
-
-
-def grown_twelve():
-    """A tree with as many ties as there can be: the partings (1,) .. (11,) and the tails of 1 .. 11."""
-    tails = [tuple(range(first, 12)) for first in range(1, 11)]
-    return tree_of(12, tuple(sorted(tails + [(valley,) for valley in range(1, 12)])))
-
-
-def reached(ties, start):
-    """All places to which these ties lead from start."""
-    found = {start}
-    for _ in ties:
-        found |= {place for tie in ties if found & set(tie) for place in tie}
-    return found
-
-
-def far_side(tree, tie, start):
-    """The places that tie parts from start."""
-    rest = [other for other in tree.ties if other != tie]
-    return set(range(len(tree.ties) + 1)) - reached(rest, start)
-
-
-def parted(tree, tie):
-    """The parting of tie as the words say it."""
-    far = far_side(tree, tie, tree.seats[0])
-    return tuple(valley for valley, seat in enumerate(tree.seats) if seat in far)
-
-
-def cross(one, other):
-    return bool(set(one) & set(other) and set(one) - set(other) and set(other) - set(one))
-
-
-def lots_of(many):
-    """All partings that so many valleys can have, ascending."""
-    valleys = range(1, many)
-    return sorted(lot for size in range(1, many) for lot in itertools.combinations(valleys, size))
-
-
-def families(many):
-    """All ascending tuples of partings no two of which cross."""
-    found = [()]
-    for lot in lots_of(many):
-        found += [family + (lot,) for family in found if not any(cross(lot, other) for other in family)]
-    return found
-
-
-def renumbered(tree, numbers):
-    """The tree whose place numbers[p] is place p of tree."""
-    ties = sorted(tuple(sorted((numbers[one], numbers[other]))) for one, other in tree.ties)
-    return Tree(tuple(ties), tuple(numbers[seat] for seat in tree.seats))
 
 
 def ties_are_right(thing):
