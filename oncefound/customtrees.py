@@ -3,7 +3,7 @@
 from itertools import combinations
 
 from oncefound.errors import BadCustomTree
-from oncefound.tables import check_full, check_matter, used
+from oncefound.tables import check_full, used
 from oncefound.trees import do_cross, steps_to
 from oncefound.values import is_lot, is_rising
 
@@ -11,7 +11,6 @@ from oncefound.values import is_lot, is_rising
 def custom_trees(table, matter):
     """The ascending list of all custom trees of matter."""
     check_full(table)
-    check_matter(table, matter)
     customs = used(table, matter)
     pairs = list(combinations(list(customs), 2))
     return [tree for tree in combinations(pairs, len(customs[1:])) if _do_join(tree, customs)]
@@ -25,7 +24,6 @@ def _do_join(pairs, customs):
 def is_custom_tree(table, matter, thing):
     """Whether thing, any value, is a custom tree of matter."""
     check_full(table)
-    check_matter(table, matter)
     customs = used(table, matter)
     if not isinstance(thing, tuple) or len(thing) != len(customs) - 1:
         return False

@@ -21,7 +21,7 @@ def piece(tree, table, matter, custom):
     seats = [tree.seats[valley] for valley in having(table, matter, custom)]
     step = steps_to(tree.ties, seats[0])
     # The ways from all seats to the first one cover the ways between any two of them.
-    places = set(seats[:1])
+    places = set()
     for seat in seats:
         place = seat
         while place not in places:

@@ -41,7 +41,7 @@ def sparse_pairs(seed, times):
         columns = []
         for _ in range(dice.randint(1, 2)):
             some = dice.sample(range(many), min(many, dice.randint(2, 4)))
-            customs = dict(zip(some, dice.sample((0, 2, 5, dice.choice((0, 2))), len(some))))
+            customs = dict(zip(some, dice.sample(dice.choice(((0, 2, 5, 4), (0, 0, 2, 2), (0, 0, 0, 5))), len(some))))
             columns.append([customs.get(valley, None) for valley in range(many)])
         yield dice, tree, Table((6,) * len(columns), tuple(zip(*columns)))
 
@@ -184,6 +184,17 @@ class Many(Case):
         self.same(fillings_many(Tree((), (0,) * 12), Table((1,), ((0,),) * 12)), 1)
         star = Tree(tuple((0, place) for place in range(1, 4)), (1, 2, 3))
         self.same(fillings_many(star, Table((3,) * 8, ((0,) * 8, (1,) * 8, (2,) * 8))), 3 ** 8)
+
+    def test_free_places_on_both_sides_of_a_piece(self):
+        line = tuple((place, place + 1) for place in range(7))
+        for cells, many in (
+            ((0, 0, None, 1, None, None, None, None), 2), ((None, 0, None, 0, None, None, 1, None), 3),
+            ((1, None, 0, None, 0, None, None, 2), 6), ((1, 1, None, None, 0, 0, None, 2), 6),
+            ((1, None, None, 1, None, 2, None, 2), 2), ((None, 1, 1, None, 0, 0, None, None), 2),
+        ):
+            table = Table((3,), tuple((cell,) for cell in cells))
+            self.same(fillings_many(Tree(line, tuple(range(8))), table), many)
+            self.same(fillings_many(Tree(line, tuple(range(7, -1, -1))), table), many)
 
     def test_as_many_as_the_words_have(self):
         found = collections.Counter()

@@ -4,7 +4,7 @@ import itertools
 import random
 import unittest
 
-from oncefound.errors import BadRow, BadValley, TooMany
+from oncefound.errors import BadRow, BadValley, NotTwo, TooMany, Unread
 from oncefound.fillings import filling, fillings_many
 from oncefound.middles import closure, crossing_lots, majority, steps_back
 from oncefound.splits import crossed, least_tree, table_of
@@ -24,7 +24,7 @@ CROSSING = (
 def crossing_table(matters, more=()):
     """A table of matters each two of which cross, and of further columns."""
     rows = tuple(row[:matters] + cells for row, cells in zip(CROSSING, tuple(zip(*more)) or ((),) * 6))
-    return Table((2,) * len(rows[0]), rows)
+    return Table(tuple(max(cells) + 1 for cells in zip(*rows)), rows)
 
 
 def leading_in(table):
@@ -172,6 +172,13 @@ class CrossingLots(Case):
             self.refused(TooMany, closure, table, told={"most": 64})
             self.refused(TooMany, crossing_lots, table, told={"most": 64})
         self.assertEqual(len(closed(crossing_table(6, [own]).rows)), 65)
+
+    def test_too_many_comes_behind_all_others(self):
+        for function in (closure, crossing_lots):
+            three = crossing_table(7, [(0, 0, 1, 1, 2, 2)])
+            self.refused(NotTwo, function, three, told={"matter": 7})
+            self.refused(Unread, function, Table(three.kinds, ((0,) * 7 + (None,),) + three.rows))
+            self.refused(TooMany, function, crossing_table(7), told={"most": 64})
 
 
 class StepsBack(Case):

@@ -48,6 +48,7 @@ class Example(Case):
     def test_t(self):
         self.same(crossed(table_t()), None)
         self.same(least_tree(table_t()), Tree(((0, 2), (1, 2), (2, 3)), (0, 1, 3)))
+        self.same(partings(least_tree(table_t())), ((1,), (1, 2), (2,)))
         self.same(four(table_t(), 0, 1), None)
 
     def test_u(self):
