@@ -112,11 +112,12 @@ def middle(tree, one, other, third):
     return [place for place in path(tree, one, other) if place in left and place in right][0]
 
 
-def _tie_of(one, other):
+def tie_of(one, other):
+    """The tie of two places that are joined: the lesser one first."""
     return (min(one, other), max(one, other))
 
 
-def _partings_of_ties(tree):
+def partings_of_ties(tree):
     """A dict with the parting of each tie."""
     root = tree.seats[0]
     step = steps_to(tree.ties, root)
@@ -124,7 +125,7 @@ def _partings_of_ties(tree):
     for valley, seat in enumerate(tree.seats):
         place = seat
         while place != root:
-            lots[_tie_of(place, step[place])].append(valley)
+            lots[tie_of(place, step[place])].append(valley)
             place = step[place]
     return {tie: tuple(lots[tie]) for tie in tree.ties}
 
@@ -133,13 +134,13 @@ def parting(tree, tie):
     """The ascending tuple of the valleys that tie parts from valley 0."""
     check_tree(tree)
     _check_tie(tree, tie)
-    return _partings_of_ties(tree)[tie]
+    return partings_of_ties(tree)[tie]
 
 
 def partings(tree):
     """The ascending tuple of the partings of all ties."""
     check_tree(tree)
-    lots = _partings_of_ties(tree)
+    lots = partings_of_ties(tree)
     return tuple(sorted(lots.values()))
 
 
@@ -153,6 +154,11 @@ def do_cross(one, other):
     """Whether some valley is in both partings, some in the first alone and some in the second alone."""
     shared = [valley for valley in one if valley in other]
     return 0 < len(shared) < min(len(one), len(other))
+
+
+def side_without_0(many, valleys):
+    """The ascending tuple of these valleys; of all other ones of so many if 0 is among these."""
+    return tuple([valley for valley in range(many) if (valley in valleys) != (0 in valleys)])
 
 
 def are_partings(many, thing):
@@ -172,7 +178,7 @@ def tree_of(many, lots):
     """The normal tree of many valleys with just these partings."""
     if not are_partings(many, lots):
         raise BadPartings("not ascending partings no two of which cross")
-    ties = [_tie_of(_inmost(lots, lot[0], len(lot)), index + 1) for index, lot in enumerate(lots)]
+    ties = [tie_of(_inmost(lots, lot[0], len(lot)), index + 1) for index, lot in enumerate(lots)]
     seats = [_inmost(lots, valley, 0) for valley in range(many)]
     return Tree(tuple(sorted(ties)), tuple(seats))
 

@@ -33,3 +33,13 @@ def are_different(thing, many):
 def is_shuffle(thing, many):
     """Whether thing is a tuple of all numbers from 0 to many - 1, each once."""
     return are_different(thing, many) and len(thing) == many
+
+
+def bits(number):
+    """The ascending list of the places of the bits of number, which is not below 0."""
+    places = []
+    while number > 0:
+        least = number & -number
+        places.append(least.bit_length() - 1)
+        number = number - least
+    return places

@@ -186,3 +186,74 @@ def agreeing(table, one, other, first, second):
 def arrows_of_table(table):
     """All ways to choose a custom tree for each matter."""
     return itertools.product(*[trees_of_customs(table, matter) for matter in range(len(table.kinds))])
+
+
+def clashing_pairs(table, arrows):
+    """All ((matter, pair), (matter, pair)) of two pairs of the arrows whose partings cross, ascending."""
+    lots = []
+    for matter, pairs in enumerate(arrows):
+        lots += [((matter, pair), lot) for pair, lot in zip(pairs, partings_of_pairs(table, matter, pairs))]
+    return [(one, other) for (one, lot), (other, another) in itertools.combinations(sorted(lots), 2)
+            if cross(lot, another)]
+
+
+def arrows_without_clash(table):
+    """All arrows each two custom trees of which agree, ascending."""
+    matters = range(len(table.kinds))
+    choices = [trees_of_customs(table, matter) for matter in matters]
+    agreed = {}
+    for one, other in itertools.combinations(matters, 2):
+        for first, second in itertools.product(choices[one], choices[other]):
+            agreed[one, first, other, second] = agreeing(table, one, other, first, second)
+    pairs = list(itertools.combinations(matters, 2))
+    return [arrows for arrows in itertools.product(*choices)
+            if all(agreed[one, arrows[one], other, arrows[other]] for one, other in pairs)]
+
+
+def marks_of(table):
+    return [(matter, custom) for matter in range(len(table.kinds)) for custom in used_customs(table, matter)]
+
+
+def had_together(table):
+    """The ties of the web: two marks of different matters that some valley has."""
+    pairs = itertools.combinations(marks_of(table), 2)
+    return [(one, other) for one, other in pairs
+            if one[0] != other[0] and any(row[one[0]] == one[1] and row[other[0]] == other[1] for row in table.rows)]
+
+
+def legal_ties(table):
+    """All pairs of marks of different matters that are not in the web."""
+    pairs = itertools.combinations(marks_of(table), 2)
+    return [pair for pair in pairs if pair[0][0] != pair[1][0] and pair not in had_together(table)]
+
+
+def all_rings(ties):
+    """All rings of four or more things that these ties make, each once."""
+    near = {}
+    for one, other in ties:
+        near.setdefault(one, set()).add(other)
+        near.setdefault(other, set()).add(one)
+    found = []
+
+    def go_on(ring):
+        for thing in near[ring[-1]]:
+            if thing == ring[0] and len(ring) > 3 and ring[1] < ring[-1]:
+                found.append(tuple(ring))
+            elif thing > ring[0] and thing not in ring:
+                go_on(ring + [thing])
+    for start in near:
+        go_on([start])
+    return found
+
+
+def across(ring):
+    """The pairs of things of the ring that do not follow one another in it, the lesser one first."""
+    last = len(ring) - 1
+    places = itertools.combinations(range(len(ring)), 2)
+    return [tuple(sorted((ring[one], ring[other]))) for one, other in places
+            if other - one > 1 and (one, other) != (0, last)]
+
+
+def open_ones(ties):
+    """All rings of these ties without a tie across."""
+    return [ring for ring in all_rings(ties) if not set(across(ring)) & set(ties)]

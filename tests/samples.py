@@ -1,5 +1,6 @@
 """What several tests use: tables and trees, values of any kind, and a test case with a check of errors."""
 
+import itertools
 import random
 import unittest
 
@@ -136,3 +137,67 @@ def shape(value):
     if isinstance(value, Tree):
         return (Tree, shape(value.ties), shape(value.seats))
     return (type(value), repr(value))
+
+
+def in_lists(value):
+    """The value with a list in the place of one tuple, each place in turn."""
+    if isinstance(value, tuple):
+        yield list(value)
+        for index, item in enumerate(value):
+            for changed in in_lists(item):
+                yield value[:index] + (changed,) + value[index + 1:]
+
+
+def in_truths(value):
+    """The value with True in the place of one 1, or False in that of one 0, each place in turn."""
+    if isinstance(value, tuple):
+        for index, item in enumerate(value):
+            for changed in in_truths(item):
+                yield value[:index] + (changed,) + value[index + 1:]
+    elif value in (0, 1) and isinstance(value, int):
+        yield bool(value)
+
+
+def cut_short(value):
+    """The value without one item of one tuple, or with one item twice, each place in turn."""
+    if isinstance(value, tuple):
+        for index, item in enumerate(value):
+            yield value[:index] + value[index + 1:]
+            yield value[:index] + (item,) + value[index:]
+            for changed in cut_short(item):
+                yield value[:index] + (changed,) + value[index + 1:]
+
+
+def with_strangers(value):
+    """The value with something of another kind in the place of one part, each place in turn."""
+    for stranger in (None, "0", "clash", -1, 99, (), [], {}, {0: 0}, (0,), table_a(), tree_t()):
+        yield stranger
+    if isinstance(value, tuple):
+        for index, item in enumerate(value):
+            for changed in with_strangers(item):
+                yield value[:index] + (changed,) + value[index + 1:]
+
+
+def spoiled(value):
+    """Values written otherwise than value, in one place each: none of them may pass for it."""
+    changed = itertools.chain(in_lists(value), in_truths(value), cut_short(value), with_strangers(value))
+    return [other for other in changed if repr(other) != repr(value)]
+
+
+def crowded_table(dice, valleys, matters, most_kind=6, unread=0.0):
+    """A table in which the customs of a matter have mostly two valleys or more: often no tree fits."""
+    columns = []
+    for _ in range(matters):
+        kind = dice.randint(1 if valleys < 4 else 2, max(1, min(most_kind, (valleys + 1) // 2)))
+        column = dice.sample([valley % kind for valley in range(valleys)], valleys)
+        sparse = [None if dice.random() < unread else custom for custom in column]
+        columns.append(column if set(sparse) == {None} else sparse)
+    kinds = tuple(max(cell for cell in column if cell is not None) + 1 for column in columns)
+    return Table(kinds, tuple(zip(*columns)))
+
+
+def crowded_tables(seed, times, valleys, matters, most_kind=6, unread=(0.0,)):
+    """So many of them, with numbers of valleys and matters and shares of unread cells from these."""
+    dice = random.Random(seed)
+    for _ in range(times):
+        yield dice, crowded_table(dice, dice.choice(valleys), dice.choice(matters), most_kind, dice.choice(unread))

@@ -4,25 +4,34 @@ import copy
 import itertools
 import unittest
 
+from oncefound.arrows import arrow_clash, arrow_filling, arrow_tree, arrows_of
 from oncefound.changing import exchanged, kept, merged, picked, read, with_matter, with_row
+from oncefound.chooser import choice_list, fitting_tree, good_arrows, is_choice_list, some_fit
+from oncefound.closings import closing, closing_of, is_closing, tree_of_closing
 from oncefound.customtrees import agree, custom_trees, is_custom_tree, pair_partings
-from oncefound.errors import AllUnread, BadColumn, BadCustom, BadCustoms, BadCustomTree, BadFilling, BadKind, BadKinds
-from oncefound.errors import BadMany, BadMatter, BadMatters, BadParting, BadPartings, BadPlace, BadRow, BadRows
-from oncefound.errors import BadSeats, BadTable, BadText, BadTie, BadTies, BadTree, BadValley, BadValleys, Crosses
-from oncefound.errors import OtherMany, TooMany
+from oncefound.errors import AllUnread, BadArrows, BadClosing, BadColumn, BadCustom, BadCustoms, BadCustomTree
+from oncefound.errors import BadFilling, BadKind, BadKinds, BadMany, BadMatter, BadMatters, BadMore, BadParting
+from oncefound.errors import BadPartings, BadPlace, BadRow, BadRows, BadSeats, BadTable, BadText, BadTie, BadTies
+from oncefound.errors import BadTree, BadValley, BadValleys, Clash, Crosses, OtherMany, TooMany, Unread
 from oncefound.fillings import changes, choices, filling, fillings_many, is_filling
 from oncefound.middles import closure, crossing_lots, majority, steps_back
 from oncefound.pieces import clash, fits, piece
+from oncefound.rings import is_ring, open_ring
 from oncefound.splits import crossed, four, least_tree, table_of
 from oncefound.tables import Table, having, is_full, is_row, sorts, used
 from oncefound.texts import from_text, to_text
 from oncefound.trees import Tree, added, alike, are_partings, common, finer, joined, middle, normal, parting
 from oncefound.trees import partings, path, tree_of
+from oncefound.web import marks, web
 from samples import Case, any_values, nested, shape, table_a, tree_t
+from test_arrows import CLASHING, GOOD, ROWS, SEATS
+from test_chooser import LIST, table_four
 from test_customtrees import LINE, table_c
 from test_fillings import RIGHT
 from test_pieces import table_p
+from test_rings import ACROSS, LONG
 from test_splits import table_u
+from test_web import table_apart
 
 TABLE = ("table", table_a(), BadTable)
 TREE = ("tree", tree_t(), BadTree)
@@ -32,6 +41,9 @@ TWO_TREES = (("one", tree_t(), BadTree), ("other", tree_of(4, ((2, 3),)), BadTre
 TREE_AND_TABLE = (TREE, ("table", table_p(), BadTable))
 TABLE_U = ("table", table_u(), BadTable)
 TABLE_C = ("table", table_c(), BadTable)
+TABLE_FOUR = ("table", table_four(), BadTable)
+TABLE_APART = ("table", table_apart(), BadTable)
+ARROWS = ("arrows", GOOD, BadArrows)
 
 # Each function and class: its parameters with a value that is right, and the error of a wrong one.
 CALLS = (
@@ -85,6 +97,23 @@ CALLS = (
     (pair_partings, TABLE_C, ("matter", 0, BadMatter), ("custom_tree", LINE, BadCustomTree)),
     (agree, TABLE_C, ("one", 0, BadMatter), ("first", LINE, BadCustomTree), ("other", 1, BadMatter),
      ("second", ((0, 1),), BadCustomTree)),
+    (arrow_clash, TABLE_C, ARROWS),
+    (arrow_tree, TABLE_C, ARROWS),
+    (arrow_filling, TABLE_C, ARROWS),
+    (arrows_of, ("tree", SEATS, BadTree), TABLE_C, ("rows", ROWS, BadFilling)),
+    (some_fit, TABLE),
+    (fitting_tree, TABLE),
+    (good_arrows, TABLE_C),
+    (choice_list, TABLE_FOUR),
+    (is_choice_list, TABLE_FOUR, ("thing", LIST, None)),
+    (marks, TABLE),
+    (web, TABLE),
+    (open_ring, TABLE_APART, ("more", (), BadMore)),
+    (is_ring, TABLE_APART, ("more", ACROSS, BadMore), ("thing", LONG, None)),
+    (is_closing, TABLE_APART, ("thing", ACROSS, None)),
+    (closing_of, *TREE_AND_TABLE, ("rows", RIGHT, BadFilling)),
+    (closing, TABLE_APART),
+    (tree_of_closing, TABLE_APART, ("more", ACROSS, BadClosing)),
 )
 
 
@@ -134,7 +163,8 @@ class Calls(Case):
 
     def test_what_judges_any_value_raises_nothing_for_it(self):
         judging = [call for call in CALLS if call[-1][2] is None]
-        self.assertEqual([call[0] for call in judging], [is_row, are_partings, is_filling, is_custom_tree])
+        known = [is_row, are_partings, is_filling, is_custom_tree, is_choice_list, is_ring, is_closing]
+        self.assertEqual([call[0] for call in judging], known)
         for function, *parameters in judging:
             ahead = [value for _, value, _ in parameters[:-1]]
             self.assertIs(function(*ahead, parameters[-1][1]), True)
@@ -207,6 +237,12 @@ class Numbers(Case):
         self.assertIs(is_custom_tree(table_c(), 0, ((0, True), (1, 2))), False)
         self.refused(BadCustomTree, pair_partings, table_c(), 0, ((False, 1), (1, 2)))
         self.refused(BadCustomTree, agree, table_c(), 0, LINE, 1, ((0, True),))
+        self.refused(BadArrows, arrow_tree, table_c(), (LINE, ((False, 1),)))
+        self.refused(BadFilling, arrows_of, SEATS, table_c(), ROWS[:3] + ((True, 1),))
+        self.assertIs(is_choice_list(table_four(), ((False,) + LIST[0][1:], LIST[1])), False)
+        self.refused(BadMore, open_ring, table_apart(), (((True, 0), (2, 0)),))
+        self.assertIs(is_ring(table_apart(), (), LONG[:3] + ((2, False),)), False)
+        self.assertIs(is_closing(table_apart(), (((1, False), (2, 0)),)), False)
 
     def test_results_have_no_truth_values_in_the_place_of_numbers(self):
         for function, *parameters in CALLS:
@@ -245,6 +281,21 @@ class OrderOfErrors(Case):
         for function in (alike, finer, common):
             self.refused(BadTree, function, Tree((), (0,)), [tree_t()])
             self.refused(OtherMany, function, Tree((), (0,)), tree_t())
+
+    def test_unread_comes_behind_other_many_and_ahead_of_the_rest(self):
+        for function, *parameters in CALLS:
+            if TABLE_C in parameters:
+                for value in wrong_anywhere():
+                    given = [table_a() if name == "table" else value for name, _, _ in parameters]
+                    if parameters[0][0] == "tree":
+                        self.refused(BadTree, function, *given)
+                        self.refused(OtherMany, function, Tree((), (0,)), *given[1:])
+                        given[0] = SEATS
+                    self.refused(Unread, function, *given)
+
+    def test_clash_comes_behind_bad_arrows(self):
+        self.refused(BadArrows, arrow_filling, table_c(), CLASHING[::-1])
+        self.refused(Clash, arrow_filling, table_c(), CLASHING)
 
     def test_crosses_comes_behind_bad_parting(self):
         tree = tree_of(4, ((1, 2), (2,)))

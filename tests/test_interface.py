@@ -39,6 +39,20 @@ INTERFACE = {
         "custom_trees": "table matter", "is_custom_tree": "table matter thing",
         "pair_partings": "table matter custom_tree", "agree": "table one first other second",
     },
+    "arrows": {
+        "arrow_clash": "table arrows", "arrow_tree": "table arrows", "arrow_filling": "table arrows",
+        "arrows_of": "tree table rows",
+    },
+    "chooser": {
+        "some_fit": "table", "fitting_tree": "table", "good_arrows": "table", "choice_list": "table",
+        "is_choice_list": "table thing",
+    },
+    "web": {"marks": "table", "web": "table"},
+    "rings": {"open_ring": "table more", "is_ring": "table more thing"},
+    "closings": {
+        "is_closing": "table thing", "closing_of": "tree table rows", "closing": "table",
+        "tree_of_closing": "table more",
+    },
 }
 # What may be imported from Python's own library.
 LIBRARY = {"itertools": {"combinations"}}

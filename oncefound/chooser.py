@@ -1,0 +1,260 @@
+"""Whether some tree fits a table: a tree, arrows without a clash, or a list of choices that all clash."""
+
+from oncefound.customtrees import custom_trees, is_custom_tree, pair_partings
+from oncefound.errors import TooMany
+from oncefound.tables import check_full, check_table
+from oncefound.trees import do_cross, side_without_0, tree_of
+from oncefound.values import bits, is_between, is_number
+
+MOST_ARROWS = 5000
+# The marks of a row are bits of a number: eight for each matter, of which customs need six at most.
+BITS = 8
+FIRST_OF_EACH = 0x0101010101010101
+LAST_OF_EACH = 0x8080808080808080
+
+
+def some_fit(table):
+    """Whether some tree fits table, unread cells or not."""
+    check_table(table)
+    return _fitting_lots(table) is not None
+
+
+def fitting_tree(table):
+    """A normal tree that fits table, unread cells or not; None if none fits."""
+    check_table(table)
+    lots = _fitting_lots(table)
+    if lots is None:
+        return None
+    return tree_of(len(table.rows), tuple(sorted(set(lots))))
+
+
+def _fitting_lots(table):
+    """The partings of a tree that fits, each valley alone at a place in one tie; None if no tree fits.
+
+    Each tree that fits has a finer one of this kind, in which three parts of the valleys come
+    together at each lost place: all ahead of it, and two behind it.
+    """
+    many = len(table.rows)
+    sets = [_marks_of(row) for row in table.rows]
+    groups = [[valley] for valley in range(many)]
+    leaders = _leaders(sets, groups)
+    unions = _unions([sets[groups[place][0]] for place in leaders])
+    halves = {}
+    behind = len(unions) - 2
+    if _halves(unions, halves, behind) is None:
+        return None
+    for lot in _lots_behind(halves, behind):
+        groups.append([valley for place in bits(lot) for valley in groups[leaders[place]]])
+    lots = [side_without_0(many, group) for group in groups]
+    return [lot for lot in lots if lot != ()]
+
+
+def _marks_of(row):
+    return sum([1 << (BITS * matter + cell) for matter, cell in enumerate(row) if cell is not None])
+
+
+def _leaders(sets, groups):
+    """The numbers of the groups of which all others are parts, that with valley 0 first.
+
+    groups has each valley alone, and gets more: of two groups in which one leader, the valley
+    that stands first, has all that the other one shares with other groups, a group is made,
+    led by the former. The latter can stand next to it in each tree for all others.
+    """
+    leading = list(range(len(groups)))
+    follower, leader = _follower(sets, groups, leading)
+    while follower != leader:
+        leading = [place for place in leading if place not in (follower, leader)] + [len(groups)]
+        groups.append(groups[leader] + groups[follower])
+        follower, leader = _follower(sets, groups, leading)
+    return sorted(leading, key=lambda place: min(groups[place]))
+
+
+def _follower(sets, groups, leading):
+    """The first two of these groups the second of which has all that the first shares; one twice if there are none."""
+    led = {place: sets[groups[place][0]] for place in leading}
+    once = 0
+    shared = 0
+    for own in led.values():
+        shared = shared | once & own
+        once = once | own
+    for one in leading:
+        for other in leading:
+            if one != other and led[one] & shared & ~led[other] == 0:
+                return (one, other)
+    return (leading[0], leading[0])
+
+
+def _unions(sets):
+    """For each choice of sets, as a number with a bit for each that is taken, the union of these."""
+    unions = [0]
+    for own in sets:
+        unions = unions + [union | own for union in unions]
+    return unions
+
+
+def _halves(unions, halves, lot):
+    """The two parts into which lot can be parted; () if it needs none; None if it cannot. Kept in halves."""
+    if lot not in halves:
+        halves[lot] = () if lot & (lot - 1) == 0 else _found_halves(unions, halves, lot)
+    return halves[lot]
+
+
+def _found_halves(unions, halves, lot):
+    least = lot & -lot
+    rest = lot - least
+    ahead = unions[len(unions) - 1 - lot]
+    part = rest
+    while part > 0:
+        part = (part - 1) & rest
+        one, other = least + part, rest - part
+        if _can_meet(unions[one], unions[other], ahead):
+            if _halves(unions, halves, one) is not None and _halves(unions, halves, other) is not None:
+                return (one, other)
+    return None
+
+
+def _can_meet(one, other, third):
+    """Whether a place where three parts come together gets at most one custom in each matter.
+
+    It gets what two of the parts have. To take 1 from the bits of a matter, with one more ahead
+    of them to take it from, changes no bit but the least that is set and those below it.
+    """
+    shared = one & other | one & third | other & third
+    return shared & ((shared | LAST_OF_EACH) - FIRST_OF_EACH) == 0
+
+
+def _lots_behind(halves, lot):
+    """lot and all parts that it is parted into, the parts of these with them."""
+    lots = [lot]
+    index = 0
+    while index < len(lots):
+        lots.extend(list(halves[lots[index]]))
+        index = index + 1
+    return lots
+
+
+def _told(table, matter):
+    """The list of the pairs (custom tree, its partings) of matter, ascending."""
+    return [(tree, pair_partings(table, matter, tree)) for tree in custom_trees(table, matter)]
+
+
+def _all_told(table):
+    """_told for each matter; BadTable, Unread, or TooMany for more than 5000 arrows."""
+    check_full(table)
+    many = 1
+    for matter in range(len(table.kinds)):
+        many = many * len(custom_trees(table, matter))
+        if many > MOST_ARROWS:
+            raise TooMany(MOST_ARROWS)
+    return [_told(table, matter) for matter in range(len(table.kinds))]
+
+
+def _any_cross(lots, others):
+    return any([do_cross(lot, other) for lot in lots for other in others])
+
+
+def good_arrows(table):
+    """The ascending list of all arrows without a clash."""
+    found = [((), ())]
+    for told in _all_told(table):
+        found = [_more(start, choice) for start in found for choice in told if not _any_cross(start[1], choice[1])]
+    return [arrows for arrows, _ in found]
+
+
+def _more(start, choice):
+    """The arrows of start and their partings, with the custom tree of choice and its partings behind them."""
+    arrows, lots = start
+    custom_tree, others = choice
+    return (arrows + (custom_tree,), lots + others)
+
+
+def choice_list(table):
+    """A choice list, which shows that no tree fits; None if some tree fits."""
+    told = _all_told(table)
+    if some_fit(table):
+        return None
+    entries = []
+    # A way is a dict with the partings of the custom tree that it has for a matter.
+    ways = [{}]
+    while len(entries) < len(ways):
+        way = ways[len(entries)]
+        matter = _narrowest(told, way)
+        branches = []
+        for custom_tree, lots in told[matter]:
+            earlier = _clashing(way, lots)
+            branches.append((custom_tree, len(ways) if earlier is None else ("clash", earlier)))
+            if earlier is None:
+                ways.append({**way, matter: lots})
+        entries.append((matter, tuple(branches)))
+    return tuple(entries)
+
+
+def _narrowest(told, way):
+    """The matter not on the way that has the fewest custom trees which agree with all on it."""
+    many = {}
+    for matter, choices in enumerate(told):
+        if matter not in way:
+            many[matter] = len([lots for _, lots in choices if _clashing(way, lots) is None])
+    return min(list(many), key=lambda matter: many[matter])
+
+
+def _clashing(way, lots):
+    """The first matter on the way of which a parting crosses one of lots; None if there is none."""
+    for matter, others in way.items():
+        if _any_cross(lots, others):
+            return matter
+    return None
+
+
+def is_choice_list(table, thing):
+    """Whether thing, any value, is a choice list of table."""
+    check_full(table)
+    if not isinstance(thing, tuple) or len(thing) == 0:
+        return False
+    told = {}
+    ways = {0: {}}
+    for index, entry in enumerate(thing):
+        if index not in ways or not _is_entry(table, told, ways[index], entry):
+            return False
+        matter, branches = entry
+        later = [(what, lots) for (_, what), (_, lots) in zip(branches, told[matter]) if is_number(what)]
+        for number, lots in later:
+            if not index < number < len(thing) or number in ways:
+                return False
+            ways[number] = {**ways[index], matter: lots}
+    return True
+
+
+def _is_entry(table, told, way, thing):
+    """Whether thing is an entry with this way, but for the numbers that it tells.
+
+    told, a dict that this may add to, has _told of matters that were asked for.
+    """
+    if not isinstance(thing, tuple) or len(thing) != 2:
+        return False
+    matter, branches = thing
+    if not is_between(matter, 0, len(table.kinds) - 1) or matter in way or not isinstance(branches, tuple):
+        return False
+    if matter not in told:
+        told[matter] = _told(table, matter)
+    if len(branches) != len(told[matter]):
+        return False
+    return all([_is_branch(table, matter, way, branch, choice) for branch, choice in zip(branches, told[matter])])
+
+
+def _is_branch(table, matter, way, thing, choice):
+    """Whether thing is a branch for choice, a custom tree and its partings: it tells a number or a true clash."""
+    custom_tree, lots = choice
+    if not isinstance(thing, tuple) or len(thing) != 2:
+        return False
+    # Equal is not enough: (False, True) is equal to (0, 1).
+    if thing[0] != custom_tree or not is_custom_tree(table, matter, thing[0]):
+        return False
+    return is_number(thing[1]) or _is_clash(way, lots, thing[1])
+
+
+def _is_clash(way, lots, thing):
+    """Whether thing is the pair of the word clash and a matter on the way of which a parting crosses one of lots."""
+    if not isinstance(thing, tuple) or len(thing) != 2 or thing[0] != "clash":
+        return False
+    return is_number(thing[1]) and thing[1] in way and _any_cross(lots, way[thing[1]])
