@@ -13,17 +13,28 @@ SHORTEST = 4
 def is_ring(table, more, thing):
     """Whether thing, any value, is a ring of the web and more; it may have ties across."""
     check_more(table, more)
+    return is_ring_of(table, web(table) + more, thing)
+
+
+def is_ring_of(table, ties, thing):
+    """Whether thing, any value, is a ring of these ties, which are the keys of a dict or a tuple."""
     if not isinstance(thing, tuple) or len(thing) < SHORTEST:
         return False
     if not all([is_mark(table, mark) for mark in thing]) or len(set(thing)) != len(thing):
         return False
-    tied = web(table) + more
-    return all([tie in tied for tie in ring_ties(thing)])
+    return all([tie in ties for tie in ring_ties(thing)])
 
 
 def ring_ties(ring):
     """The ties of a ring, of marks or of their numbers: each with the next one, the last with the first."""
     return [tie_of(one, other) for one, other in zip(ring, ring[1:] + ring[:1])]
+
+
+def pairs_across(ring):
+    """The ascending list of the pairs in a ring, of marks or of their numbers, that do not follow one another."""
+    last = len(ring) - 1
+    places = [(one, other) for one in range(last) for other in range(one + 2, last + 1) if other - one < last]
+    return sorted([tie_of(ring[one], ring[other]) for one, other in places])
 
 
 def open_ring(table, more):

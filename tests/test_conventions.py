@@ -5,6 +5,8 @@ import itertools
 import unittest
 
 from oncefound.arrows import arrow_clash, arrow_filling, arrow_tree, arrows_of
+from oncefound.cases import case_list, is_case_list
+from oncefound.chains import chain, is_chain
 from oncefound.changing import exchanged, kept, merged, picked, read, with_matter, with_row
 from oncefound.chooser import choice_list, fitting_tree, good_arrows, is_choice_list, some_fit
 from oncefound.closings import closing, closing_of, is_closing, tree_of_closing
@@ -12,19 +14,24 @@ from oncefound.customtrees import agree, custom_trees, is_custom_tree, pair_part
 from oncefound.errors import AllUnread, BadArrows, BadClosing, BadColumn, BadCustom, BadCustoms, BadCustomTree
 from oncefound.errors import BadFilling, BadKind, BadKinds, BadMany, BadMatter, BadMatters, BadMore, BadParting
 from oncefound.errors import BadPartings, BadPlace, BadRow, BadRows, BadSeats, BadTable, BadText, BadTie, BadTies
-from oncefound.errors import BadTree, BadValley, BadValleys, Clash, Crosses, OtherMany, TooMany, Unread
+from oncefound.errors import BadTree, BadValley, BadValleys, Clash, Crosses, NoFit, NotThree, OtherMany, TooMany, Unread
 from oncefound.fillings import changes, choices, filling, fillings_many, is_filling
+from oncefound.listing import agreed, all_trees, fitting, idle, least, only
+from oncefound.lots import apart_lots, failing_lots, fitting_lots, ways_out
 from oncefound.middles import closure, crossing_lots, majority, steps_back
 from oncefound.pieces import clash, fits, piece
 from oncefound.rings import is_ring, open_ring
 from oncefound.splits import crossed, four, least_tree, table_of
 from oncefound.tables import Table, having, is_full, is_row, sorts, used
 from oncefound.texts import from_text, to_text
+from oncefound.threes import bad_three, middle_pairs, pairs_example
 from oncefound.trees import Tree, added, alike, are_partings, common, finer, joined, middle, normal, parting
 from oncefound.trees import partings, path, tree_of
 from oncefound.web import marks, web
 from samples import Case, any_values, nested, shape, table_a, tree_t
 from test_arrows import CLASHING, GOOD, ROWS, SEATS
+from test_cases import SIX, SIX_LIST
+from test_chains import CHAIN
 from test_chooser import LIST, table_four
 from test_customtrees import LINE, table_c
 from test_fillings import RIGHT
@@ -43,6 +50,8 @@ TABLE_U = ("table", table_u(), BadTable)
 TABLE_C = ("table", table_c(), BadTable)
 TABLE_FOUR = ("table", table_four(), BadTable)
 TABLE_APART = ("table", table_apart(), BadTable)
+TABLE_SIX = ("table", SIX, BadTable)
+TABLE_PAIRS = ("table", pairs_example(), BadTable)
 ARROWS = ("arrows", GOOD, BadArrows)
 
 # Each function and class: its parameters with a value that is right, and the error of a wrong one.
@@ -114,6 +123,23 @@ CALLS = (
     (closing_of, *TREE_AND_TABLE, ("rows", RIGHT, BadFilling)),
     (closing, TABLE_APART),
     (tree_of_closing, TABLE_APART, ("more", ACROSS, BadClosing)),
+    (case_list, TABLE_SIX),
+    (is_case_list, TABLE_SIX, ("thing", SIX_LIST, None)),
+    (bad_three, TABLE_PAIRS),
+    (middle_pairs, TABLE_PAIRS, ("one", 0, BadMatter), ("other", 1, BadMatter)),
+    (pairs_example,),
+    (chain, TABLE_PAIRS),
+    (is_chain, TABLE_PAIRS, ("thing", CHAIN, None)),
+    (failing_lots, TABLE_SIX),
+    (fitting_lots, TABLE_SIX),
+    (ways_out, TABLE_SIX),
+    (apart_lots, TABLE_SIX),
+    (all_trees, ("many", 4, BadMany)),
+    (fitting, TABLE),
+    (least, TABLE),
+    (agreed, TABLE),
+    (only, TABLE),
+    (idle, TABLE),
 )
 
 
@@ -162,8 +188,9 @@ class Calls(Case):
                     self.assertIs(outcome(function, **named)[0], errors[0], (function, values))
 
     def test_what_judges_any_value_raises_nothing_for_it(self):
-        judging = [call for call in CALLS if call[-1][2] is None]
-        known = [is_row, are_partings, is_filling, is_custom_tree, is_choice_list, is_ring, is_closing]
+        judging = [call for call in CALLS if len(call) > 1 and call[-1][2] is None]
+        known = [is_row, are_partings, is_filling, is_custom_tree, is_choice_list, is_ring, is_closing,
+                 is_case_list, is_chain]
         self.assertEqual([call[0] for call in judging], known)
         for function, *parameters in judging:
             ahead = [value for _, value, _ in parameters[:-1]]
@@ -243,6 +270,12 @@ class Numbers(Case):
         self.refused(BadMore, open_ring, table_apart(), (((True, 0), (2, 0)),))
         self.assertIs(is_ring(table_apart(), (), LONG[:3] + ((2, False),)), False)
         self.assertIs(is_closing(table_apart(), (((1, False), (2, 0)),)), False)
+        self.assertIs(is_case_list(SIX, ((SIX_LIST[0][0], (((0, 0), (1, 2), True),) + SIX_LIST[0][1][1:]),)
+                                   + SIX_LIST[1:]), False)
+        self.assertIs(is_chain(pairs_example(), (((False, 2, "outer"),) + CHAIN[0][1:], CHAIN[1])), False)
+        self.refused(BadMatter, middle_pairs, pairs_example(), False, 1)
+        self.refused(BadMatter, middle_pairs, pairs_example(), 0, True)
+        self.refused(BadMany, all_trees, True)
 
     def test_results_have_no_truth_values_in_the_place_of_numbers(self):
         for function, *parameters in CALLS:
@@ -292,6 +325,22 @@ class OrderOfErrors(Case):
                         self.refused(OtherMany, function, Tree((), (0,)), *given[1:])
                         given[0] = SEATS
                     self.refused(Unread, function, *given)
+
+    def test_not_three_comes_behind_unread_and_ahead_of_the_rest(self):
+        four = Table((1, 4), ((0, 0), (0, 1), (0, 2), (0, 3)))
+        unread = Table((4, 1), ((0, 0), (1, None), (2, 0), (3, 0)))
+        for function, *parameters in CALLS:
+            if TABLE_PAIRS in parameters:
+                for value in wrong_anywhere():
+                    rest = [value] * (len(parameters) - 1)
+                    self.refused(BadTable, function, value, *rest)
+                    self.refused(Unread, function, unread, *rest)
+                    self.refused(NotThree, function, four, *rest, told={"matter": 1})
+
+    def test_no_fit_comes_behind_too_many(self):
+        square = table_four().rows
+        self.refused(TooMany, agreed, Table((2, 2), square + square), told={"most": 5})
+        self.refused(NoFit, agreed, table_four())
 
     def test_clash_comes_behind_bad_arrows(self):
         self.refused(BadArrows, arrow_filling, table_c(), CLASHING[::-1])

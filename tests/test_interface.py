@@ -53,6 +53,13 @@ INTERFACE = {
         "is_closing": "table thing", "closing_of": "tree table rows", "closing": "table",
         "tree_of_closing": "table more",
     },
+    "cases": {"case_list": "table", "is_case_list": "table thing"},
+    "threes": {"bad_three": "table", "middle_pairs": "table one other", "pairs_example": ""},
+    "chains": {"chain": "table", "is_chain": "table thing"},
+    "lots": {"failing_lots": "table", "fitting_lots": "table", "ways_out": "table", "apart_lots": "table"},
+    "listing": {
+        "all_trees": "many", "fitting": "table", "least": "table", "agreed": "table", "only": "table", "idle": "table",
+    },
 }
 # What may be imported from Python's own library.
 LIBRARY = {"itertools": {"combinations"}}
