@@ -93,10 +93,10 @@ def is_case_list(table, thing):
     check_table(table)
     if not isinstance(thing, tuple) or len(thing) == 0:
         return False
-    tied = {tie: True for tie in web(table)}
+    tied = web(table)
     ways = {0: ()}
     for index, entry in enumerate(thing):
-        if index not in ways or not _is_entry(table, {**tied, **{tie: True for tie in ways[index]}}, entry):
+        if index not in ways or not _is_entry(table, {tie: True for tie in tied + ways[index]}, entry):
             return False
         for one, other, later in entry[1]:
             if not index < later < len(thing) or later in ways:

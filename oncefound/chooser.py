@@ -54,7 +54,7 @@ def _marks_of(row):
 
 
 def _leaders(sets, groups):
-    """The numbers of the groups of which all others are parts, that with valley 0 first.
+    """The numbers of the groups of which all others are parts.
 
     groups has each valley alone, and gets more: of two groups in which one leader, the valley
     that stands first, has all that the other one shares with other groups, a group is made,
@@ -66,7 +66,7 @@ def _leaders(sets, groups):
         leading = [place for place in leading if place not in (follower, leader)] + [len(groups)]
         groups.append(groups[leader] + groups[follower])
         follower, leader = _follower(sets, groups, leading)
-    return sorted(leading, key=lambda place: min(groups[place]))
+    return leading
 
 
 def _follower(sets, groups, leading):
@@ -216,12 +216,13 @@ def is_choice_list(table, thing):
     for index, entry in enumerate(thing):
         if index not in ways or not _is_entry(table, told, ways[index], entry):
             return False
+        way = ways[index]
         matter, branches = entry
         later = [(what, lots) for (_, what), (_, lots) in zip(branches, told[matter]) if is_number(what)]
         for number, lots in later:
             if not index < number < len(thing) or number in ways:
                 return False
-            ways[number] = {**ways[index], matter: lots}
+            ways[number] = {**way, matter: lots}
     return True
 
 

@@ -6,7 +6,7 @@ from oncefound.changing import kept
 from oncefound.chooser import some_fit
 from oncefound.customtrees import agree, custom_trees
 from oncefound.errors import NotThree
-from oncefound.tables import Table, check_full, check_matter, used
+from oncefound.tables import Table, check_full, used
 
 MOST_CUSTOMS = 3
 MOST_NEEDED = 3
@@ -47,15 +47,16 @@ def middle_pairs(table, one, other):
 
 def _check_just_three(table, matter):
     """BadMatter unless it is a matter, NotThree unless it has just three used customs."""
-    check_matter(table, matter)
     if len(used(table, matter)) != MOST_CUSTOMS:
         raise NotThree(matter)
 
 
 def _by_middle(table, matter):
-    """A dict with the custom tree of a matter of three used customs for each middle custom, ascending."""
-    trees = {_middle_of(tree): tree for tree in custom_trees(table, matter)}
-    return {custom: trees[custom] for custom in sorted(trees)}
+    """A dict with the custom tree of a matter of three used customs for each middle custom.
+
+    The customs are ascending, as the custom trees are.
+    """
+    return {_middle_of(tree): tree for tree in custom_trees(table, matter)}
 
 
 def _middle_of(custom_tree):

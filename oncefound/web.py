@@ -21,7 +21,12 @@ def web(table):
 
 def ties_within(rows):
     """The ascending tuple of the pairs of marks that stand together in one of these rows."""
-    return tuple(sorted({tie for row in rows for tie in combinations(marks_in(row), 2)}))
+    ties = set()
+    for row in rows:
+        own = marks_in(row)
+        for tie in combinations(own, 2):
+            ties.add(tie)
+    return tuple(sorted(ties))
 
 
 def marks_in(row):

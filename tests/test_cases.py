@@ -197,6 +197,11 @@ class IsCaseList(Case):
             self.assertIs(is_case_list(SIX, thing), later == (1, 2, 3), later)
         self.assertIs(is_case_list(SIX, SIX_LIST + SIX_LIST[1:2]), False)
         self.assertIs(is_case_list(SIX, SIX_LIST[:3]), False)
+        # Two triples tell one entry, whose ring would do for the way of either; or one tells what is no entry.
+        for later in itertools.product(range(-1, 9), repeat=3):
+            changed = tuple((one, other, index) for (one, other, _), index in zip(branches, later))
+            for some in (SIX_LIST[1:3], SIX_LIST[1:4:2], SIX_LIST[2:]):
+                self.assertIs(is_case_list(SIX, ((ring, changed),) + some), False)
         self.assertIs(is_case_list(SIX, SIX_LIST[1:]), False)
         self.assertIs(is_case_list(SIX, ()), False)
 
@@ -220,6 +225,16 @@ class IsCaseList(Case):
         self.assertIs(is_case_list(table_apart(), ((LONG, (((1, 0), (2, 0), 1),)),)), False)
         self.assertIs(is_case_list(table_apart(), ((LONG, (((1, 0), (2, 0), 1),)), (LONG, ()))), False)
         self.assertIs(is_case_list(SIX, SIX_LIST[:1] + (SIX_LIST[2], SIX_LIST[1], SIX_LIST[3])), False)
+
+    def test_a_tie_across_that_has_a_branch(self):
+        more = Table((3, 3), SIX.rows + ((0, 2),))
+        self.assertIs(is_case_list(more, SIX_LIST[1:2]), True)
+        self.assertIs(is_case_list(more, SIX_LIST), False)
+        # The ring of entry 1 has across it the tie that its way has.
+        ring, branches = SIX_LIST[0]
+        again = (ring, tuple((one, other, later + 3) for one, other, later in branches))
+        self.assertIs(is_case_list(SIX, (SIX_LIST[0], again) + SIX_LIST[2:] + SIX_LIST[1:]), False)
+        self.assertIs(is_case_list(SIX, (SIX_LIST[0], SIX_LIST[1]) + SIX_LIST[2:]), True)
 
     def test_what_is_written_otherwise_is_none(self):
         for table, right in ((table_square(), LIST), (SIX, SIX_LIST)):

@@ -66,7 +66,8 @@ class Changing(Case):
             fitting = some_fit(table)
             less = [kept(table, tuple(sorted(dice.sample(range(len(table.kinds)), dice.randint(1, len(table.kinds))))))]
             valleys = dice.sample(range(len(table.rows)), dice.randint(2, len(table.rows)))
-            if all(any(table.rows[valley][matter] is not None for valley in valleys) for matter in range(len(table.kinds))):
+            columns = zip(*[table.rows[valley] for valley in valleys])
+            if all(set(column) != {None} for column in columns):
                 less.append(picked(table, tuple(valleys)))
             for matter in range(len(table.kinds)):
                 valley = dice.randrange(len(table.rows))

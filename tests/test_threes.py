@@ -35,9 +35,10 @@ class BadThree(Case):
         rows = tuple((0,) + row for row in pairs_example().rows)
         self.same(bad_three(Table((6, 3, 3, 3), rows)), (1, 2, 3))
         # Two that cross come ahead of three, even if they stand behind them.
-        rows = tuple(row + pair for row, pair in zip(pairs_example().rows, ((0, 0), (0, 1), (1, 0), (1, 1), (0, 0), (0, 0))))
-        self.same(bad_three(Table((3, 3, 3, 2, 2), rows)), self.first(Table((3, 3, 3, 2, 2), rows)))
-        self.assertEqual(len(bad_three(Table((3, 3, 3, 2, 2), rows))), 2)
+        crossing = ((0, 0), (0, 1), (1, 0), (1, 1), (0, 0), (0, 0))
+        table = Table((3, 3, 3, 2, 2), tuple(row + pair for row, pair in zip(pairs_example().rows, crossing)))
+        self.same(bad_three(table), self.first(table))
+        self.assertEqual(len(bad_three(table)), 2)
 
     def first(self, table):
         matters = range(len(table.kinds))
