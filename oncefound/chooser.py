@@ -9,44 +9,66 @@ from oncefound.values import bits, is_between, is_number
 MOST_ARROWS = 5000
 # The marks of a row are bits of a number: eight for each matter, of which customs need six at most.
 BITS = 8
-FIRST_OF_EACH = 0x0101010101010101
-LAST_OF_EACH = 0x8080808080808080
+# For nine matters, since a rival of a quartet has one more than a table may have.
+FIRST_OF_EACH = 0x010101010101010101
+LAST_OF_EACH = 0x808080808080808080
 
 
 def some_fit(table):
     """Whether some tree fits table, unread cells or not."""
     check_table(table)
-    return _fitting_lots(table) is not None
+    return fitting_partings(table.rows) is not None
 
 
 def fitting_tree(table):
     """A normal tree that fits table, unread cells or not; None if none fits."""
     check_table(table)
-    lots = _fitting_lots(table)
-    if lots is None:
-        return None
-    return tree_of(len(table.rows), tuple(sorted(set(lots))))
+    lots = fitting_partings(table.rows)
+    return None if lots is None else tree_of(len(table.rows), lots)
 
 
-def _fitting_lots(table):
-    """The partings of a tree that fits, each valley alone at a place in one tie; None if no tree fits.
+def fitting_partings(rows):
+    """The ascending tuple of the partings of a grown tree that fits a table of these rows; None if no tree fits.
 
-    Each tree that fits has a finer one of this kind, in which three parts of the valleys come
-    together at each lost place: all ahead of it, and two behind it.
+    Each tree that fits has a finer one that is grown: each valley is alone at a place of one tie,
+    and three ties meet at each lost place. Two pieces that have such a place in common have a tie
+    there in common, so that the tree fits exactly if each of its partings is open.
     """
-    many = len(table.rows)
-    sets = [_marks_of(row) for row in table.rows]
+    many = len(rows)
+    sets = [_marks_of(row) for row in rows]
     groups = [[valley] for valley in range(many)]
     leaders = _leaders(sets, groups)
-    unions = _unions([sets[groups[place][0]] for place in leaders])
+    are_open = _open_lots([sets[groups[place][0]] for place in leaders])
     halves = {}
-    behind = len(unions) - 2
-    if _halves(unions, halves, behind) is None:
+    if _halves(are_open, halves, len(are_open) - 1) is None:
         return None
-    for lot in _lots_behind(halves, behind):
-        groups.append([valley for place in bits(lot) for valley in groups[leaders[place]]])
+    for lot in _lots_behind(halves, len(are_open) - 1):
+        groups.append([valley for place in bits(lot) for valley in groups[leaders[place + 1]]])
     lots = [side_without_0(many, group) for group in groups]
-    return [lot for lot in lots if lot != ()]
+    return tuple(sorted({lot for lot in lots if lot != ()}))
+
+
+def partings_that_fit(rows):
+    """The list of all partings that grown trees have which fit a table of these rows; None if no tree fits.
+
+    They are told as numbers with a bit for each valley.
+    """
+    are_open = _open_lots([_marks_of(row) for row in rows])
+    halves = {}
+    found = [len(are_open) - 1]
+    if _halves(are_open, halves, found[0]) is None:
+        return None
+    known = {found[0]: True}
+    index = 0
+    while index < len(found):
+        for pair in _splits(are_open, halves, found[index], len(are_open)):
+            for part in pair:
+                if part not in known:
+                    known[part] = True
+                    found.append(part)
+        index = index + 1
+    # Bit 0 of a lot is that of valley 1; one valley has no parting.
+    return [lot << 1 for lot in found if lot > 0]
 
 
 def _marks_of(row):
@@ -84,43 +106,44 @@ def _follower(sets, groups, leading):
     return (leading[0], leading[0])
 
 
-def _unions(sets):
-    """For each choice of sets, as a number with a bit for each that is taken, the union of these."""
+def _open_lots(sets):
+    """For each lot of the sets but the first one, as a number with a bit for each of these: whether it is open.
+
+    It is if in each matter at most one custom is had by sets of the lot and by others.
+    """
     unions = [0]
-    for own in sets:
+    for own in sets[1:]:
         unions = unions + [union | own for union in unions]
-    return unions
+    shared = [own & (sets[0] | others) for own, others in zip(unions, unions[::-1])]
+    # To take 1 from the bits of a matter, with one more ahead of them to take it from, changes
+    # no bit but the least that is set and those below it.
+    return [marks & ((marks | LAST_OF_EACH) - FIRST_OF_EACH) == 0 for marks in shared]
 
 
-def _halves(unions, halves, lot):
+def _halves(are_open, halves, lot):
     """The two parts into which lot can be parted; () if it needs none; None if it cannot. Kept in halves."""
     if lot not in halves:
-        halves[lot] = () if lot & (lot - 1) == 0 else _found_halves(unions, halves, lot)
+        if lot & (lot - 1) == 0:
+            halves[lot] = ()
+        else:
+            splits = _splits(are_open, halves, lot, 1)
+            halves[lot] = splits[0] if len(splits) > 0 else None
     return halves[lot]
 
 
-def _found_halves(unions, halves, lot):
+def _splits(are_open, halves, lot, most):
+    """The pairs of two open parts of lot that can be parted further to the end; no more than the first of them."""
     least = lot & -lot
     rest = lot - least
-    ahead = unions[len(unions) - 1 - lot]
     part = rest
-    while part > 0:
+    found = []
+    while part > 0 and len(found) < most:
         part = (part - 1) & rest
         one, other = least + part, rest - part
-        if _can_meet(unions[one], unions[other], ahead):
-            if _halves(unions, halves, one) is not None and _halves(unions, halves, other) is not None:
-                return (one, other)
-    return None
-
-
-def _can_meet(one, other, third):
-    """Whether a place where three parts come together gets at most one custom in each matter.
-
-    It gets what two of the parts have. To take 1 from the bits of a matter, with one more ahead
-    of them to take it from, changes no bit but the least that is set and those below it.
-    """
-    shared = one & other | one & third | other & third
-    return shared & ((shared | LAST_OF_EACH) - FIRST_OF_EACH) == 0
+        if are_open[one] and are_open[other]:
+            if _halves(are_open, halves, one) is not None and _halves(are_open, halves, other) is not None:
+                found.append((one, other))
+    return found
 
 
 def _lots_behind(halves, lot):

@@ -3,7 +3,7 @@
 from oncefound.errors import BadFilling, NoFit
 from oncefound.pieces import check_tree_and_table, fits, pieces_of
 from oncefound.tables import check_matter, is_used_row, used
-from oncefound.trees import check_place, path, steps_to
+from oncefound.trees import check_place, steps_to
 
 
 def is_filling(tree, table, thing):
@@ -81,16 +81,29 @@ def choices(tree, table, place, matter):
     check_matter(table, matter)
     if not fits(tree, table):
         raise NoFit("the tree does not fit the table")
+    return customs_by_place(tree, table, matter)[place]
+
+
+def customs_by_place(tree, table, matter):
+    """A dict with the ascending tuple of the customs that each place has in fillings of tree, which fits."""
     pieces = pieces_of(tree, table, matter)
     owners = _owners(pieces)
-    # A way that has reached a piece can stay in it, so that one way to each piece tells all.
-    ways = {custom: path(tree, place, places[0]) for custom, places in pieces.items()}
-    return tuple([custom for custom, way in ways.items() if _is_clear(owners, way, custom)])
+    customs = {place: () for place in range(len(tree.ties) + 1)}
+    for custom, places in pieces.items():
+        for place in _places_near(tree, owners, custom, places[0]):
+            customs[place] = customs[place] + (custom,)
+    return customs
 
 
-def _is_clear(owners, way, custom):
-    """Whether no place of way is in the piece of another custom."""
-    return all([owners.get(place, custom) == custom for place in way])
+def _places_near(tree, owners, custom, goal):
+    """The places from which a way leads to goal, a place of the piece of custom, through no place of another piece."""
+    step = steps_to(tree.ties, goal)
+    found = []
+    # A place stands in step behind the next one on its way; a way that has reached the piece can stay in it.
+    for place, ahead in step.items():
+        if owners.get(place, custom) == custom and (place == goal or ahead in found):
+            found.append(place)
+    return found
 
 
 def fillings_many(tree, table):

@@ -35,6 +35,11 @@ def is_shuffle(thing, many):
     return are_different(thing, many) and len(thing) == many
 
 
+def number_of(places):
+    """The number whose bits are at these different places."""
+    return sum([1 << place for place in places])
+
+
 def bits(number):
     """The ascending list of the places of the bits of number, which is not below 0."""
     places = []

@@ -6,20 +6,25 @@ import unittest
 
 from oncefound.arrows import arrow_clash, arrow_filling, arrow_tree, arrows_of
 from oncefound.cases import case_list, is_case_list
+from oncefound.cells import possible, sure_cells
 from oncefound.chains import chain, is_chain
 from oncefound.changing import exchanged, kept, merged, picked, read, with_matter, with_row
 from oncefound.chooser import choice_list, fitting_tree, good_arrows, is_choice_list, some_fit
+from oncefound.claims import against, is_sure, is_sure_paper, sure_paper, sure_partings, sure_quartets
 from oncefound.closings import closing, closing_of, is_closing, tree_of_closing
 from oncefound.customtrees import agree, custom_trees, is_custom_tree, pair_partings
 from oncefound.errors import AllUnread, BadArrows, BadClosing, BadColumn, BadCustom, BadCustoms, BadCustomTree
 from oncefound.errors import BadFilling, BadKind, BadKinds, BadMany, BadMatter, BadMatters, BadMore, BadParting
-from oncefound.errors import BadPartings, BadPlace, BadRow, BadRows, BadSeats, BadTable, BadText, BadTie, BadTies
+from oncefound.errors import BadPartings, BadPlace, BadQuartet, BadQuartets, BadRow, BadRows, BadSeats, BadTable, BadText, BadTie, BadTies
 from oncefound.errors import BadTree, BadValley, BadValleys, Clash, Crosses, NoFit, NotThree, OtherMany, TooMany, Unread
 from oncefound.fillings import changes, choices, filling, fillings_many, is_filling
+from oncefound.grown import all_grown, grown, grown_many, is_grown, partings_free
 from oncefound.listing import agreed, all_trees, fitting, idle, least, only
 from oncefound.lots import apart_lots, failing_lots, fitting_lots, ways_out
 from oncefound.middles import closure, crossing_lots, majority, steps_back
+from oncefound.mixed import is_mixture, mixture
 from oncefound.pieces import clash, fits, piece
+from oncefound.quartets import are_quartets, parts, quartets, tree_of_quartets
 from oncefound.rings import is_ring, open_ring
 from oncefound.splits import crossed, four, least_tree, table_of
 from oncefound.tables import Table, having, is_full, is_row, sorts, used
@@ -32,10 +37,14 @@ from samples import Case, any_values, nested, shape, table_a, tree_t
 from test_arrows import CLASHING, GOOD, ROWS, SEATS
 from test_cases import SIX, SIX_LIST
 from test_chains import CHAIN
+from test_cells import CELLS
 from test_chooser import LIST, table_four
+from test_claims import HALVES, PAPER, QUARTET
 from test_customtrees import LINE, table_c
 from test_fillings import RIGHT
+from test_mixed import MIXTURE, SQUARE
 from test_pieces import table_p
+from test_quartets import FIVE
 from test_rings import ACROSS, LONG
 from test_splits import table_u
 from test_web import table_apart
@@ -52,7 +61,10 @@ TABLE_FOUR = ("table", table_four(), BadTable)
 TABLE_APART = ("table", table_apart(), BadTable)
 TABLE_SIX = ("table", SIX, BadTable)
 TABLE_PAIRS = ("table", pairs_example(), BadTable)
+TABLE_SQUARE = ("table", SQUARE, BadTable)
+TABLE_HALVES = ("table", HALVES, BadTable)
 ARROWS = ("arrows", GOOD, BadArrows)
+PARTED = ("quartet", QUARTET, BadQuartet)
 
 # Each function and class: its parameters with a value that is right, and the error of a wrong one.
 CALLS = (
@@ -140,6 +152,25 @@ CALLS = (
     (agreed, TABLE),
     (only, TABLE),
     (idle, TABLE),
+    (partings_free, TREE),
+    (is_grown, TREE),
+    (grown, TREE),
+    (grown_many, TREE),
+    (all_grown, TREE),
+    (mixture, TABLE_SQUARE, ("valley", 3, BadValley)),
+    (is_mixture, TABLE_SQUARE, ("valley", 3, BadValley), ("thing", MIXTURE, None)),
+    (parts, TREE, PARTED),
+    (quartets, TREE),
+    (are_quartets, ("many", 5, BadMany), ("thing", FIVE, None)),
+    (tree_of_quartets, ("many", 5, BadMany), ("several", FIVE, BadQuartets)),
+    (is_sure, TABLE_HALVES, PARTED),
+    (against, TABLE_HALVES, ("quartet", ((0, 2), (1, 3)), BadQuartet)),
+    (sure_quartets, TABLE_HALVES),
+    (sure_partings, TABLE_HALVES),
+    (sure_paper, TABLE_HALVES, PARTED),
+    (is_sure_paper, TABLE_HALVES, PARTED, ("thing", PAPER, None)),
+    (possible, ("table", CELLS, BadTable), ("valley", 2, BadValley), MATTER),
+    (sure_cells, ("table", CELLS, BadTable)),
 )
 
 
@@ -190,7 +221,7 @@ class Calls(Case):
     def test_what_judges_any_value_raises_nothing_for_it(self):
         judging = [call for call in CALLS if len(call) > 1 and call[-1][2] is None]
         known = [is_row, are_partings, is_filling, is_custom_tree, is_choice_list, is_ring, is_closing,
-                 is_case_list, is_chain]
+                 is_case_list, is_chain, is_mixture, are_quartets, is_sure_paper]
         self.assertEqual([call[0] for call in judging], known)
         for function, *parameters in judging:
             ahead = [value for _, value, _ in parameters[:-1]]
@@ -276,6 +307,17 @@ class Numbers(Case):
         self.refused(BadMatter, middle_pairs, pairs_example(), False, 1)
         self.refused(BadMatter, middle_pairs, pairs_example(), 0, True)
         self.refused(BadMany, all_trees, True)
+        self.refused(BadValley, mixture, SQUARE, True)
+        self.assertIs(is_mixture(SQUARE, 3, MIXTURE[:2] + (True, 2)), False)
+        self.assertIs(is_mixture(SQUARE, 3, (MIXTURE[0], ((False, 0), (0, 1), (1, 0)), 1, 2)), False)
+        self.refused(BadQuartet, parts, tree_t(), ((False, 1), (2, 3)))
+        self.assertIs(are_quartets(5, (((0, True), (2, 3)),) + FIVE[1:]), False)
+        self.refused(BadMany, are_quartets, True, ())
+        self.refused(BadQuartets, tree_of_quartets, 5, (((False, 1), (2, 3)),) + FIVE[1:])
+        self.refused(BadQuartet, is_sure, HALVES, ((0, True), (2, 3)))
+        self.assertIs(is_sure_paper(HALVES, QUARTET, ((((((0, False),) + PAPER[0][0][0][1:]), ()),), PAPER[1])), False)
+        self.refused(BadValley, possible, CELLS, True, 1)
+        self.refused(BadMatter, possible, CELLS, 2, True)
 
     def test_results_have_no_truth_values_in_the_place_of_numbers(self):
         for function, *parameters in CALLS:
@@ -341,6 +383,17 @@ class OrderOfErrors(Case):
         square = table_four().rows
         self.refused(TooMany, agreed, Table((2, 2), square + square), told={"most": 5})
         self.refused(NoFit, agreed, table_four())
+        self.refused(TooMany, mixture, Table((2, 2), square + square), 7, told={"most": 6})
+        self.refused(NoFit, mixture, Table((2, 2), square + square[3:]), 4)
+        eight = Table((2,) * 8, tuple(row * 4 for row in square))
+        self.refused(BadQuartet, sure_paper, eight, QUARTET[::-1])
+        self.refused(TooMany, sure_paper, eight, QUARTET, told={"most": 8})
+        self.refused(NoFit, sure_paper, SQUARE, QUARTET)
+
+    def test_all_unread_comes_ahead_of_no_fit(self):
+        table = Table((2, 2, 1), tuple(row + (None,) for row in SQUARE.rows) + ((0, 0, 0),))
+        self.refused(AllUnread, possible, table, 4, 2, told={"matter": 2})
+        self.refused(NoFit, possible, table, 4, 1)
 
     def test_clash_comes_behind_bad_arrows(self):
         self.refused(BadArrows, arrow_filling, table_c(), CLASHING[::-1])

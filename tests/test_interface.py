@@ -60,6 +60,18 @@ INTERFACE = {
     "listing": {
         "all_trees": "many", "fitting": "table", "least": "table", "agreed": "table", "only": "table", "idle": "table",
     },
+    "grown": {
+        "partings_free": "tree", "is_grown": "tree", "grown": "tree", "grown_many": "tree", "all_grown": "tree",
+    },
+    "mixed": {"mixture": "table valley", "is_mixture": "table valley thing"},
+    "quartets": {
+        "parts": "tree quartet", "quartets": "tree", "are_quartets": "many thing", "tree_of_quartets": "many several",
+    },
+    "claims": {
+        "is_sure": "table quartet", "against": "table quartet", "sure_quartets": "table", "sure_partings": "table",
+        "sure_paper": "table quartet", "is_sure_paper": "table quartet thing",
+    },
+    "cells": {"possible": "table valley matter", "sure_cells": "table"},
 }
 # What may be imported from Python's own library.
 LIBRARY = {"itertools": {"combinations"}}
