@@ -3,10 +3,10 @@
 from oncefound.cases import case_list, is_case_list
 from oncefound.changing import with_matter
 from oncefound.chooser import fitting_partings, partings_that_fit, some_fit
-from oncefound.errors import NoFit, TooMany
+from oncefound.errors import NoFit
 from oncefound.grown import is_clear
 from oncefound.quartets import check_quartet, quartets
-from oncefound.tables import MOST_MATTERS, check_table
+from oncefound.tables import check_table
 from oncefound.trees import tree_of
 from oncefound.values import number_of
 
@@ -87,9 +87,7 @@ def sure_partings(table):
 
 
 def _rivals(table, quartet):
-    """The two rivals of quartet; TooMany for a table of eight matters, which can have no more."""
-    if len(table.kinds) == MOST_MATTERS:
-        raise TooMany(MOST_MATTERS)
+    """The two rivals of quartet; TooMany for a table of eight matters."""
     return [with_matter(table, 2, column) for column in _rival_columns(len(table.rows), quartet)]
 
 

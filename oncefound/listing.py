@@ -10,7 +10,7 @@ from oncefound.values import is_between
 MOST_LISTED = 5
 
 
-def _check_few(table):
+def check_few(table):
     """BadTable, or TooMany for more valleys than are listed."""
     check_table(table)
     if len(table.rows) > MOST_LISTED:
@@ -74,7 +74,7 @@ def _misfits(table):
 
 def _fitting_families(table):
     """The ascending list of the partings of all normal trees that fit; BadTable, TooMany."""
-    _check_few(table)
+    check_few(table)
     return [family for family, misfits in _misfits(table).items() if misfits == []]
 
 
@@ -114,6 +114,6 @@ def only(table):
 
 def idle(table):
     """The ascending tuple of the matters without which no more trees fit."""
-    _check_few(table)
+    check_few(table)
     misfits = list(_misfits(table).values())
     return tuple([matter for matter in range(len(table.kinds)) if [matter] not in misfits])

@@ -30,6 +30,11 @@ def ring_ties(ring):
     return [tie_of(one, other) for one, other in zip(ring, ring[1:] + ring[:1])]
 
 
+def ties_along(way):
+    """The ties of a way, of marks, of their numbers or of places: each with the next one."""
+    return [tie_of(one, other) for one, other in zip(way, way[1:])]
+
+
 def pairs_across(ring):
     """The ascending list of the pairs in a ring, of marks or of their numbers, that do not follow one another."""
     last = len(ring) - 1

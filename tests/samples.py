@@ -4,6 +4,8 @@ import itertools
 import random
 import unittest
 
+from oncefound.book import Book
+from oncefound.desk import Desk
 from oncefound.errors import BadTable
 from oncefound.tables import Table
 from oncefound.trees import Tree
@@ -39,6 +41,7 @@ def any_values():
         {}, {0: 0}, {0: (0,)}, {True: False}, {"a": [1, {"b": (2,)}]}, {0: 1, 1: 0},
         nested(lambda value: [value]), nested(lambda value: (value,)), nested(lambda value: {1: value}),
         table_a(), tree_t(), [table_a()], (tree_t(),), {"t": table_a()}, (0, table_a()), BadTable("x"),
+        Book(table_a()), Desk(table_a()), [Book(table_a())],
     ]
 
 
@@ -136,6 +139,10 @@ def shape(value):
         return (Table, shape(value.kinds), shape(value.rows))
     if isinstance(value, Tree):
         return (Tree, shape(value.ties), shape(value.seats))
+    if isinstance(value, Book):
+        return (Book, shape(value.first()), shape(value.log()), shape(value.undone()))
+    if isinstance(value, Desk):
+        return (Desk, shape(value.book))
     return (type(value), repr(value))
 
 

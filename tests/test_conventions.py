@@ -4,7 +4,10 @@ import copy
 import itertools
 import unittest
 
+from oncefound.apart import apart_paths, are_apart
 from oncefound.arrows import arrow_clash, arrow_filling, arrow_tree, arrows_of
+from oncefound.best import best
+from oncefound.book import Book
 from oncefound.cases import case_list, is_case_list
 from oncefound.cells import possible, sure_cells
 from oncefound.chains import chain, is_chain
@@ -13,10 +16,13 @@ from oncefound.chooser import choice_list, fitting_tree, good_arrows, is_choice_
 from oncefound.claims import against, is_sure, is_sure_paper, sure_paper, sure_partings, sure_quartets
 from oncefound.closings import closing, closing_of, is_closing, tree_of_closing
 from oncefound.customtrees import agree, custom_trees, is_custom_tree, pair_partings
-from oncefound.errors import AllUnread, BadArrows, BadClosing, BadColumn, BadCustom, BadCustoms, BadCustomTree
-from oncefound.errors import BadFilling, BadKind, BadKinds, BadMany, BadMatter, BadMatters, BadMore, BadParting
-from oncefound.errors import BadPartings, BadPlace, BadQuartet, BadQuartets, BadRow, BadRows, BadSeats, BadTable, BadText, BadTie, BadTies
-from oncefound.errors import BadTree, BadValley, BadValleys, Clash, Crosses, NoFit, NotThree, OtherMany, TooMany, Unread
+from oncefound.desk import Desk
+from oncefound.errors import AllUnread, BadArrows, BadClosing, BadColumn, BadCustom, BadCustomTree, BadCustoms
+from oncefound.errors import BadFilling, BadKind, BadKinds, BadMany, BadMatter, BadMatters, BadMoment, BadMore
+from oncefound.errors import BadParting, BadPartings, BadPlace, BadQuartet, BadQuartets, BadRow, BadRows, BadSeats
+from oncefound.errors import BadTable, BadText, BadTie, BadTies, BadTree, BadValley, BadValleys, Clash, Crosses
+from oncefound.errors import NoFit, NotThree, NotTwo, OtherMany, TooMany, Unlike, Unread
+from oncefound.fewest import customs_at, extra, fewest, first_way, ways_many
 from oncefound.fillings import changes, choices, filling, fillings_many, is_filling
 from oncefound.grown import all_grown, grown, grown_many, is_grown, partings_free
 from oncefound.listing import agreed, all_trees, fitting, idle, least, only
@@ -34,6 +40,7 @@ from oncefound.trees import Tree, added, alike, are_partings, common, finer, joi
 from oncefound.trees import partings, path, tree_of
 from oncefound.web import marks, web
 from samples import Case, any_values, nested, shape, table_a, tree_t
+from test_apart import PATHS
 from test_arrows import CLASHING, GOOD, ROWS, SEATS
 from test_cases import SIX, SIX_LIST
 from test_chains import CHAIN
@@ -41,6 +48,7 @@ from test_cells import CELLS
 from test_chooser import LIST, table_four
 from test_claims import HALVES, PAPER, QUARTET
 from test_customtrees import LINE, table_c
+from test_fewest import CROSSED
 from test_fillings import RIGHT
 from test_mixed import MIXTURE, SQUARE
 from test_pieces import table_p
@@ -61,6 +69,7 @@ TABLE_FOUR = ("table", table_four(), BadTable)
 TABLE_APART = ("table", table_apart(), BadTable)
 TABLE_SIX = ("table", SIX, BadTable)
 TABLE_PAIRS = ("table", pairs_example(), BadTable)
+TREE_AND_CROSSED = (TREE, ("table", CROSSED, BadTable))
 TABLE_SQUARE = ("table", SQUARE, BadTable)
 TABLE_HALVES = ("table", HALVES, BadTable)
 ARROWS = ("arrows", GOOD, BadArrows)
@@ -171,6 +180,16 @@ CALLS = (
     (is_sure_paper, TABLE_HALVES, PARTED, ("thing", PAPER, None)),
     (possible, ("table", CELLS, BadTable), ("valley", 2, BadValley), MATTER),
     (sure_cells, ("table", CELLS, BadTable)),
+    (fewest, *TREE_AND_TABLE, MATTER),
+    (ways_many, *TREE_AND_TABLE, MATTER),
+    (first_way, *TREE_AND_TABLE, MATTER),
+    (customs_at, *TREE_AND_TABLE, ("place", 3, BadPlace), MATTER),
+    (extra, *TREE_AND_TABLE),
+    (are_apart, *TREE_AND_CROSSED, ("matter", 0, BadMatter), ("thing", PATHS, None)),
+    (apart_paths, *TREE_AND_CROSSED, ("matter", 0, BadMatter)),
+    (best, TABLE),
+    (Book, TABLE),
+    (Desk, TABLE),
 )
 
 
@@ -221,7 +240,7 @@ class Calls(Case):
     def test_what_judges_any_value_raises_nothing_for_it(self):
         judging = [call for call in CALLS if len(call) > 1 and call[-1][2] is None]
         known = [is_row, are_partings, is_filling, is_custom_tree, is_choice_list, is_ring, is_closing,
-                 is_case_list, is_chain, is_mixture, are_quartets, is_sure_paper]
+                 is_case_list, is_chain, is_mixture, are_quartets, is_sure_paper, are_apart]
         self.assertEqual([call[0] for call in judging], known)
         for function, *parameters in judging:
             ahead = [value for _, value, _ in parameters[:-1]]
@@ -318,6 +337,13 @@ class Numbers(Case):
         self.assertIs(is_sure_paper(HALVES, QUARTET, ((((((0, False),) + PAPER[0][0][0][1:]), ()),), PAPER[1])), False)
         self.refused(BadValley, possible, CELLS, True, 1)
         self.refused(BadMatter, possible, CELLS, 2, True)
+        for function in (fewest, ways_many, first_way, apart_paths):
+            self.refused(BadMatter, function, tree_t(), CROSSED, False)
+        self.refused(BadPlace, customs_at, tree_t(), CROSSED, True, 0)
+        self.refused(BadMatter, customs_at, tree_t(), CROSSED, 1, False)
+        self.assertIs(are_apart(tree_t(), CROSSED, 0, ((False, 1),)), False)
+        self.refused(BadMoment, Book(table_a()).at, False)
+        self.refused(BadValley, Book(table_a()).drop_valley, True)
 
     def test_results_have_no_truth_values_in_the_place_of_numbers(self):
         for function, *parameters in CALLS:
@@ -345,7 +371,7 @@ class OrderOfErrors(Case):
 
     def test_other_many_comes_ahead_of_all_but_bad_tree_and_bad_table(self):
         for function, *parameters in CALLS:
-            if parameters[:2] == list(TREE_AND_TABLE):
+            if parameters[:2] in (list(TREE_AND_TABLE), list(TREE_AND_CROSSED)):
                 rest = ["?"] * (len(parameters) - 2)
                 self.refused(BadTree, function, None, None, *rest)
                 self.refused(BadTable, function, Tree((), (0,)), None, *rest)
@@ -394,6 +420,16 @@ class OrderOfErrors(Case):
         table = Table((2, 2, 1), tuple(row + (None,) for row in SQUARE.rows) + ((0, 0, 0),))
         self.refused(AllUnread, possible, table, 4, 2, told={"matter": 2})
         self.refused(NoFit, possible, table, 4, 1)
+
+    def test_unlike_and_not_two_come_last(self):
+        star = Tree((), (0,) * 4)
+        four = Table((1, 4), ((0, 0), (0, 1), (0, 2), (0, 3)))
+        self.refused(BadPlace, customs_at, star, four, 1, 2)
+        self.refused(BadMatter, customs_at, star, four, 0, 2)
+        self.refused(Unlike, customs_at, star, four, 0, 1, told={"place": 0})
+        self.refused(BadMatter, apart_paths, star, four, 2)
+        self.refused(NotTwo, apart_paths, star, four, 1, told={"matter": 1})
+        self.refused(Unlike, apart_paths, star, CROSSED, 0, told={"place": 0})
 
     def test_clash_comes_behind_bad_arrows(self):
         self.refused(BadArrows, arrow_filling, table_c(), CLASHING[::-1])

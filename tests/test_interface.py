@@ -72,6 +72,25 @@ INTERFACE = {
         "sure_paper": "table quartet", "is_sure_paper": "table quartet thing",
     },
     "cells": {"possible": "table valley matter", "sure_cells": "table"},
+    "fewest": {
+        "fewest": "tree table matter", "ways_many": "tree table matter", "first_way": "tree table matter",
+        "customs_at": "tree table place matter", "extra": "tree table",
+    },
+    "apart": {"are_apart": "tree table matter thing", "apart_paths": "tree table matter"},
+    "best": {"best": "table"},
+    "book": {"Book": "table"},
+    "desk": {"Desk": "table"},
+}
+METHODS = {
+    ("tables", "Table"): {"__eq__": "other"},
+    ("trees", "Tree"): {"__eq__": "other"},
+    ("book", "Book"): {
+        "add_valley": "row", "drop_valley": "valley", "read": "valley matter custom", "add_matter": "kind column",
+        "drop_matter": "matter", "merge": "matter one other", "undo": "", "redo": "", "first": "", "table": "",
+        "at": "count", "log": "", "undone": "", "stands": "", "paper": "", "failing": "", "sure": "",
+        "possible": "valley matter", "broken": "", "copy": "", "__len__": "", "__eq__": "other",
+    },
+    ("desk", "Desk"): {"say": "row"},
 }
 # What may be imported from Python's own library.
 LIBRARY = {"itertools": {"combinations"}}
@@ -91,6 +110,14 @@ class Interface(unittest.TestCase):
     def test_each_name_is_defined_in_its_file(self):
         for module, names in INTERFACE.items():
             self.assertEqual(set(names) - set(defined(module)), set(), module)
+
+    def test_methods_are_defined_in_their_class(self):
+        for (module, name), methods in METHODS.items():
+            owner = getattr(importlib.import_module(f"oncefound.{module}"), name)
+            for method, wanted in methods.items():
+                self.assertIn(method, vars(owner), name)
+                parameters = inspect.signature(vars(owner)[method]).parameters
+                self.assertEqual(list(parameters)[1:], wanted.split(), method)
 
     def test_parameters(self):
         for module, names in INTERFACE.items():

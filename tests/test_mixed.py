@@ -149,6 +149,17 @@ class Mixture(Case):
                         some += 1
         self.assertTrue(some > 50, some)
 
+    def test_one_tree_that_fits_may_serve_where_another_does_not(self):
+        table = Table((3, 3, 3), ((1, 1, 1), (2, 0, 0), (0, 2, 2), (0, 0, 0), (1, 1, 1), (1, 2, 0)))
+        served = {}
+        for told in mixtures(table, 5):
+            served[repr(told[0].ties) + repr(told[0].seats)] = told
+        trees = [tree for tree in all_trees(5) if fits(tree, others_of(table, 5))]
+        full = [tree for tree in trees if len(tree.ties) == 7]
+        self.assertEqual(len([tree for tree in full if repr(tree.ties) + repr(tree.seats) in served]), 2)
+        self.assertEqual(len(full), 3)
+        self.assertIs(is_mixture(table, 5, mixture(table, 5)), True)
+
     def test_a_place_that_is_no_seat_is_needed(self):
         # Three valleys with two of three 1s each: only their middle has all.
         rows = ((1, 1, 0), (1, 0, 1), (0, 1, 1), (1, 1, 1))
