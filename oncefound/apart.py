@@ -4,7 +4,7 @@ from oncefound.errors import NotTwo
 from oncefound.fewest import customs_allowed
 from oncefound.pieces import check_tree_and_table
 from oncefound.rings import ties_along
-from oncefound.tables import check_matter, having, used
+from oncefound.tables import having, used
 from oncefound.trees import path, steps_to
 from oncefound.values import is_between
 
@@ -12,7 +12,6 @@ from oncefound.values import is_between
 def _ends(tree, table, matter):
     """The seats of the valleys with the lesser used custom, and of those with the greater one, if there is one."""
     check_tree_and_table(tree, table)
-    check_matter(table, matter)
     customs = used(table, matter)
     if len(customs) > 2:
         raise NotTwo(matter)

@@ -4,20 +4,32 @@ from oncefound.customtrees import custom_trees, is_custom_tree, pair_partings
 from oncefound.errors import TooMany
 from oncefound.tables import check_full, check_table
 from oncefound.trees import do_cross, side_without_0, tree_of
-from oncefound.values import bits, is_between, is_number
+from oncefound.values import bits, is_between, is_number, number_of
 
 MOST_ARROWS = 5000
 # The marks of a row are bits of a number: eight for each matter, of which customs need six at most.
 BITS = 8
+ALL_OF_ONE = 0xFF
 # For nine matters, since a rival of a quartet has one more than a table may have.
 FIRST_OF_EACH = 0x010101010101010101
 LAST_OF_EACH = 0x808080808080808080
+# Of three valleys a lost place can have what two of them have in each matter.
+NEVER_APART = 3
 
 
 def some_fit(table):
     """Whether some tree fits table, unread cells or not."""
     check_table(table)
-    return fitting_partings(table.rows) is not None
+    return do_fit(marks_of_rows(table.rows))
+
+
+def do_fit(sets):
+    """Whether some tree fits valleys that have these marks, told as in marks_of_rows."""
+    leading, _ = _leaders(sets)
+    if len(leading) <= NEVER_APART:
+        return True
+    are_open = _open_lots([sets[valley] for valley in leading])
+    return _halves(are_open, {}, len(are_open) - 1) is not None
 
 
 def fitting_tree(table):
@@ -35,17 +47,21 @@ def fitting_partings(rows):
     there in common, so that the tree fits exactly if each of its partings is open.
     """
     many = len(rows)
-    sets = [_marks_of(row) for row in rows]
-    groups = [[valley] for valley in range(many)]
-    leaders = _leaders(sets, groups)
-    are_open = _open_lots([sets[groups[place][0]] for place in leaders])
+    sets = marks_of_rows(rows)
+    leading, steps = _leaders(sets)
+    are_open = _open_lots([sets[valley] for valley in leading])
     halves = {}
     if _halves(are_open, halves, len(are_open) - 1) is None:
         return None
+    groups = [[valley] for valley in range(many)]
+    lots = list(groups)
+    for follower, leader in steps:
+        groups[leader] = groups[leader] + groups[follower]
+        lots.append(groups[leader])
     for lot in _lots_behind(halves, len(are_open) - 1):
-        groups.append([valley for place in bits(lot) for valley in groups[leaders[place + 1]]])
-    lots = [side_without_0(many, group) for group in groups]
-    return tuple(sorted({lot for lot in lots if lot != ()}))
+        lots.append([valley for place in bits(lot) for valley in groups[leading[place + 1]]])
+    sides = [side_without_0(many, lot) for lot in lots]
+    return tuple(sorted({side for side in sides if side != ()}))
 
 
 def partings_that_fit(rows):
@@ -53,7 +69,7 @@ def partings_that_fit(rows):
 
     They are told as numbers with a bit for each valley.
     """
-    are_open = _open_lots([_marks_of(row) for row in rows])
+    are_open = _open_lots(marks_of_rows(rows))
     halves = {}
     found = [len(are_open) - 1]
     if _halves(are_open, halves, found[0]) is None:
@@ -71,39 +87,53 @@ def partings_that_fit(rows):
     return [lot << 1 for lot in found if lot > 0]
 
 
-def _marks_of(row):
-    return sum([1 << (BITS * matter + cell) for matter, cell in enumerate(row) if cell is not None])
+def marks_of_rows(rows):
+    """For each row the marks that it has, as the bits of a number: BITS of them for each matter."""
+    return [number_of([BITS * matter + cell for matter, cell in enumerate(row) if cell is not None]) for row in rows]
 
 
-def _leaders(sets, groups):
-    """The numbers of the groups of which all others are parts.
+def marks_within(sets, matters):
+    """These sets of marks with those of these matters alone."""
+    marks = sum([ALL_OF_ONE << BITS * matter for matter in matters])
+    return [own & marks for own in sets]
 
-    groups has each valley alone, and gets more: of two groups in which one leader, the valley
-    that stands first, has all that the other one shares with other groups, a group is made,
-    led by the former. The latter can stand next to it in each tree for all others.
+
+def _leaders(sets):
+    """The valleys, one or more, that need be put together to trees, and how the others follow them.
+
+    A valley can follow a leader, which has all that it shares with others, and stand next to it
+    in each tree for the others. How they follow is a list of pairs (follower, leader), in turn.
     """
-    leading = list(range(len(groups)))
-    follower, leader = _follower(sets, groups, leading)
-    while follower != leader:
-        leading = [place for place in leading if place not in (follower, leader)] + [len(groups)]
-        groups.append(groups[leader] + groups[follower])
-        follower, leader = _follower(sets, groups, leading)
-    return leading
+    leading = list(range(len(sets)))
+    steps = []
+    seen = -1
+    while seen < len(steps):
+        seen = len(steps)
+        shared = _shared([sets[valley] for valley in leading])
+        for valley in list(leading):
+            leader = _leader(sets, leading, valley, sets[valley] & shared)
+            if leader is not None:
+                leading.remove(valley)
+                steps.append((valley, leader))
+    return (leading, steps)
 
 
-def _follower(sets, groups, leading):
-    """The first two of these groups the second of which has all that the first shares; one twice if there are none."""
-    led = {place: sets[groups[place][0]] for place in leading}
+def _shared(sets):
+    """The marks that two or more of the sets have."""
     once = 0
     shared = 0
-    for own in led.values():
+    for own in sets:
         shared = shared | once & own
         once = once | own
-    for one in leading:
-        for other in leading:
-            if one != other and led[one] & shared & ~led[other] == 0:
-                return (one, other)
-    return (leading[0], leading[0])
+    return shared
+
+
+def _leader(sets, leading, valley, marks):
+    """The first other one of the leading valleys that has all these marks; None if there is none."""
+    for other in leading:
+        if marks & ~sets[other] == 0 and other != valley:
+            return other
+    return None
 
 
 def _open_lots(sets):

@@ -2,12 +2,12 @@
 
 from oncefound.errors import Unlike
 from oncefound.pieces import check_tree_and_table
-from oncefound.tables import check_matter, used
+from oncefound.tables import used
 from oncefound.trees import check_place, steps_to
 
 
 def customs_allowed(tree, table, matter):
-    """The list of the customs that each place may have, all of which fit; Unlike with the first that has none."""
+    """The list of the customs that each place may have; BadMatter, or Unlike with the first place that has none."""
     customs = used(table, matter)
     allowed = []
     for place in range(len(tree.ties) + 1):
@@ -20,9 +20,8 @@ def customs_allowed(tree, table, matter):
 
 
 def _checked(tree, table, matter):
-    """customs_allowed, behind BadTree, BadTable, OtherMany and BadMatter."""
+    """customs_allowed, behind BadTree, BadTable and OtherMany."""
     check_tree_and_table(tree, table)
-    check_matter(table, matter)
     return customs_allowed(tree, table, matter)
 
 

@@ -166,6 +166,7 @@ class Say(Case):
         self.says(one, "fits", "yes")
         self.says(one, "table", "kinds 6 / f")
         self.says(one, "count", "0")
+        self.says(Desk(Table((2,), ((0,), (1,)))), "tree", "1")
         three = Desk(Table((6,), ((5,), (None,), (2,))))
         self.says(three, "table", "kinds 6 / f / ? / c")
         self.says(three, "possible 1 0", "abcdef")

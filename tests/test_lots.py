@@ -1,19 +1,33 @@
 """Point 61: failing lots, fitting lots, ways out, and failing lots apart."""
 
 import itertools
+import random
 import unittest
 
 from oncefound.changing import kept
 from oncefound.chooser import some_fit
 from oncefound.errors import BadTable
 from oncefound.lots import apart_lots, failing_lots, fitting_lots, ways_out
+from oncefound.pieces import fits
 from oncefound.tables import Table, is_full, used
 from oncefound.texts import from_text
 from oncefound.threes import pairs_example
-from samples import Case, any_values, crowded_tables
+from oracles import cross, normal_trees, split_of
+from samples import Case, any_values, crowded_tables, random_history, random_tree
 from test_cases import SEVEN
 from test_facts import some_fits
 
+# Rows of tables the lots of which took long to tell.
+LONG = (
+    ((0, 0, 1, 0, 1, 1, 1, 0), (0, 0, 1, 0, 1, 1, 1, 0), (0, 0, 1, 0, 1, 1, 1, 0), (0, 1, 0, 0, 0, 1, 0, 1),
+     (0, 1, 0, 1, 0, 1, 0, 1), (1, 0, 1, 0, 1, 1, 1, 0), (0, 0, 1, 0, 1, 1, 1, 0), (1, 0, 1, 0, 1, 0, 1, 0),
+     (1, 0, 1, 0, 1, 0, 1, 0), (0, 1, 0, 1, 0, 1, 0, 0), (0, 0, 1, 0, 1, 1, 1, 0), (0, 1, 0, 0, 0, 1, 0, 1)),
+    ((0, 0, 0, 0, 1, 1, 1, 1), (0, 0, 0, 0, 1, 1, 1, 1), (1, 0, 1, 1, 1, 0, 0, 0), (1, 1, 1, 1, 1, 0, 0, 0),
+     (1, 0, 1, 1, 1, 0, 0, 0), (0, 0, 0, 0, 0, 1, 1, 1), (1, 0, 1, 0, 1, 1, 0, 0), (1, 0, 1, 0, 1, 0, 0, 0),
+     (1, 1, 1, 1, 1, 0, 0, 0), (0, 0, 0, 0, 0, 1, 1, 1), (1, 0, 1, 0, 1, 0, 0, 0)),
+    ((None, 1, 0, 0, None, 1), (1, 0, 1, 0, 1, 0), (0, None, 1, 0, 0, 1), (0, None, 1, 1, None, 0),
+     (None, 1, 1, 1, None, 0), (1, 0, 1, 0, 0, 0), (None, None, 0, 0, 1, 0)),
+)
 ALL = (failing_lots, fitting_lots, ways_out, apart_lots)
 
 
@@ -32,6 +46,12 @@ def told_by_words(table, judge):
     """Failing lots, fitting lots and ways out by trying all lots, where judge tells whether a tree fits."""
     lots = every_lot(table)
     fit = {lot: lot == () or judge(kept(table, lot)) for lot in lots}
+    return (*told_by_lots(table, fit), fit)
+
+
+def told_by_lots(table, fit):
+    """Failing lots, fitting lots and ways out, where fit tells of each lot whether it fits."""
+    lots = every_lot(table)
 
     def lesser(lot):
         return [other for other in lots if set(other) < set(lot)]
@@ -41,7 +61,7 @@ def told_by_words(table, judge):
     failing = [lot for lot in lots if not fit[lot] and all(fit[other] for other in lesser(lot))]
     fitting = [lot for lot in lots if fit[lot] and not any(fit[other] for other in lots if set(lot) < set(other))]
     out = [lot for lot in lots if fit[rest(lot)] and not any(fit[rest(other)] for other in lesser(lot))]
-    return tuple(failing), tuple(fitting), tuple(out), fit
+    return tuple(failing), tuple(fitting), tuple(out)
 
 
 def hitting(lots, several):
@@ -58,6 +78,14 @@ def most_apart(lots):
             if sum(map(len, some)) == len(set().union(*some)):
                 best = size
     return best
+
+
+def judge_by_trees(table):
+    """What tells of a kept table whether a tree fits, of all trees that there are: the matters that each one fits."""
+    matters = range(len(table.kinds))
+    singles = [kept(table, (matter,)) for matter in matters]
+    found = {tuple(fits(tree, single) for single in singles) for tree in normal_trees(len(table.rows))}
+    return {lot: any(all(own[matter] for matter in lot) for own in found) for lot in every_lot(table)}
 
 
 class Lots(Case):
@@ -107,6 +135,52 @@ class Lots(Case):
             failing, _ = self.check(table, some_fits)
             found[min(2, len(failing))] = True
         self.assertEqual(len(found), 3)
+
+    def test_each_lot_of_small_tables_by_all_trees(self):
+        sizes = {}
+        for valleys, times, most_kind, unread in (
+            ((2, 3, 4, 4, 4), 150, 3, (0, 0.2, 0.4)), ((5,), 10, 3, (0, 0.4)), ((5,), 25, 2, (0.2, 0.25))
+        ):
+            for _, table in crowded_tables(1804, times, valleys, (1, 3, 5, 6), most_kind, unread):
+                failing, fitting, out = told_by_lots(table, judge_by_trees(table))
+                self.same(failing_lots(table), failing)
+                self.same(fitting_lots(table), fitting)
+                self.same(ways_out(table), out)
+                for lot in failing:
+                    sizes[len(lot)] = sizes.get(len(lot), 0) + 1
+        self.assertTrue(sizes[2] > 50 and sizes[3] > 2, sizes)
+
+    def test_two_customs_and_nothing_unread(self):
+        counts = set()
+        for _, table in crowded_tables(1805, 60, (7, 9, 12), (2, 6, 7, 8), 2):
+            splits = [split_of(table, matter) for matter in range(len(table.kinds))]
+            pairs = [lot for lot in every_lot(table) if len(lot) == 2 and cross(*[splits[m] for m in lot])]
+            fit = {lot: not any(set(pair) <= set(lot) for pair in pairs) for lot in every_lot(table)}
+            failing, fitting, out = told_by_lots(table, fit)
+            self.same(failing_lots(table), tuple(pairs))
+            self.same((failing_lots(table), fitting_lots(table), ways_out(table)), (failing, fitting, out))
+            counts.add(len(out))
+        self.assertTrue(len(counts) > 3, counts)
+
+    def test_histories_some_cells_of_which_are_read_otherwise(self):
+        sizes = set()
+        dice = random.Random(1806)
+        for _ in range(80):
+            tree = random_tree(dice, 12)
+            table, _ = random_history(dice, tree, 8, 4, dice.choice((0, 0.3, 0.5)))
+            rows = [list(row) for row in table.rows]
+            for _ in range(dice.randrange(5)):
+                matter = dice.randrange(len(table.kinds))
+                rows[dice.randrange(len(rows))][matter] = dice.choice(used(table, matter))
+            other = Table(table.kinds, tuple(map(tuple, rows)))
+            failing, _ = self.check(other, some_fit)
+            sizes |= {len(lot) for lot in failing} | {0}
+        self.assertTrue({0, 2} <= sizes, sizes)
+
+    def test_tables_that_took_long(self):
+        for rows in LONG:
+            kinds = tuple(max(cell for cell in column if cell is not None) + 1 for column in zip(*rows))
+            self.check(Table(kinds, rows), some_fit)
 
     def test_more_valleys(self):
         sizes = set()
