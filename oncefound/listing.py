@@ -108,8 +108,8 @@ def agreed(table):
 
 def only(table):
     """The one normal tree that fits; None if none or several fit."""
-    trees = fitting(table)
-    return trees[0] if len(trees) == 1 else None
+    families = _fitting_families(table)
+    return tree_of(len(table.rows), families[0]) if len(families) == 1 else None
 
 
 def idle(table):

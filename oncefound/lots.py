@@ -67,7 +67,8 @@ def _greatest_unbarred(barred):
 def _pairs_decide_in(table, columns):
     """The lot of the matters that have nothing unread and two customs at most: pairs of them decide."""
     every = (1 << len(table.rows)) - 1
-    return number_of([m for m, column in enumerate(columns) if len(column) <= 2 and sum(column) == every])
+    matters = range(len(columns))
+    return number_of([matter for matter in matters if len(columns[matter]) <= 2 and sum(columns[matter]) == every])
 
 
 def _do_fit(sets, simple, lot):
