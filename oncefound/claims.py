@@ -61,6 +61,7 @@ def _possible_lots(table):
 def sure_quartets(table):
     """The ascending tuple of all quartets that are sure for table."""
     lots = _possible_lots(table)
+    # A grown tree parts any four valleys in one of three ways, by some of its partings.
     tree = tree_of(len(table.rows), fitting_partings(table.rows))
     return tuple([quartet for quartet in quartets(tree) if not _is_crossed(lots, quartet)])
 
